@@ -15,17 +15,14 @@ func integers() map[string]Primitive {
 		"sub": two(func(r *Run, a, b api.Int) Value { return r.integer(big.Sub(a, b)) }),
 		"mul": two((*Run).product),
 		"neg": one(func(r *Run, a api.Int) Value { return r.integer(big.Neg(a)) }),
-		"div": two(func(r *Run, a, b api.Int) Value {
-			q, _ := r.divided(a, b)
-			return r.integer(q)
-		}),
+		"div": two((*Run).quotient),
 		"mod": two(func(r *Run, a, b api.Int) Value {
 			_, rest := r.divided(a, b)
 			return r.integer(rest)
 		}),
 		"lt":    two(func(_ *Run, a, b api.Int) Value { return Truth(big.Cmp(a, b) < 0) }),
 		"le":    two(func(_ *Run, a, b api.Int) Value { return Truth(big.Cmp(a, b) <= 0) }),
-		"itext": one(func(r *Run, a api.Int) Value { return r.text(big.Text(a)) }),
+		"itext": one((*Run).digits),
 	}
 }
 
@@ -37,12 +34,29 @@ func (r *Run) product(a, b api.Int) Value {
 	return r.integer(big.Mul(a, b))
 }
 
+// quotient is not worked out where it must have too many limbs: it has as many as a has more than b, or one more.
+func (r *Run) quotient(a, b api.Int) Value {
+	if big.Sign(b) != 0 && len(a.Mag)-len(b.Mag) > api.MaxLimbs {
+		return r.RaiseBuiltIn(api.ExnSize)
+	}
+	q, _ := r.divided(a, b)
+	return r.integer(q)
+}
+
 func (r *Run) divided(a, b api.Int) (q, rest api.Int) {
 	q, rest, e := big.DivMod(a, b)
 	if e != api.OK {
 		r.RaiseBuiltIn(api.ExnDiv)
 	}
 	return q, rest
+}
+
+// digits is the text of an integer. That is not worked out where it must be too long: a limb is more than nine digits.
+func (r *Run) digits(a api.Int) Value {
+	if len(a.Mag)-1 > api.MaxString/9 {
+		return r.RaiseBuiltIn(api.ExnSize)
+	}
+	return r.text(big.Text(a))
 }
 
 // reals are the primitives of reals.

@@ -192,6 +192,18 @@ func TestTooManyLimbs(t *testing.T) {
 		{"lt", v{above, above}, "#0"},
 		{"itext", v{limbs(6803, false)}, strconv.Quote(big.Text(limbs(6803, false).(api.Int)))},
 		{"itext", v{limbs(6804, false)}, "raises Size"},
+		{"itext", v{power(6803)}, strconv.Quote(big.Text(power(6803).(api.Int)))},
+		{"itext", v{power(6804)}, "raises Size"},
+		{"itext", v{power(7281)}, "raises Size"},
+		{"itext", v{power(7282)}, "raises Size"},
+		{"itext", v{limbs(1<<20, true)}, "raises Size"},
+		{"div", v{limbs(1<<20, true), limbs(1<<19, false)}, "raises Size"},
+		{"div", v{limbs(1<<20, false), number(0)}, "raises Div"},
+		{"div", v{power(2*api.MaxLimbs + 1), power(api.MaxLimbs + 1)}, "raises Size"},
+		{"div", v{power(2 * api.MaxLimbs), power(api.MaxLimbs + 1)}, told(power(api.MaxLimbs - 1))},
+		{"div", v{limbs(2*api.MaxLimbs, false), limbs(api.MaxLimbs+1, false)}, told(quotient(limbs(2*api.MaxLimbs, false), limbs(api.MaxLimbs+1, false)))},
+		{"div", v{limbs(2*api.MaxLimbs+1, false), limbs(api.MaxLimbs+1, false)}, "raises Size"},
+		{"div", v{number(1), limbs(1<<20, true)}, "~1"},
 	})
 	if n := len(big.Text(limbs(6803, false).(api.Int))); n > api.MaxString || n < api.MaxString-10 {
 		t.Errorf("a text of %d bytes", n)

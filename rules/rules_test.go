@@ -27,7 +27,7 @@ const library = " bytes cmp container/heap errors iter maps math math/bits slice
 // common, and calls no more than the lowest of them may.
 func calls() map[string]string {
 	return map[string]string{
-		"api": "", "big": "", "world": "", "lex": "big", "syntax": "big lex", "types": "big syntax", "source": "big world prim", "core": "big world", "elab": "big core", "match": "big core",
+		"api": "", "big": "", "world": "", "lex": "big", "syntax": "big lex", "types": "big syntax", "source": "big world prim", "core": "big world prim", "elab": "big core", "match": "big core",
 		"flow": "big world", "close": "core flow", "opt": "big flow", "word": "world", "heap": "", "gcrt": "", "bigrt": "gcrt", "basisrt": "gcrt bigrt", "data": "flow word gcrt bigrt basisrt",
 		"prim": "big world", "colour": "word", "x64": "", "machine": "world x64", "asm": "x64", "emit": "word colour x64 asm", "elf": "",
 		"image": "big world lex syntax types source core elab match flow close opt word heap gcrt bigrt basisrt data colour x64 machine asm emit elf",

@@ -3,6 +3,7 @@ package source
 import (
 	"smithy/api"
 	"smithy/big"
+	"smithy/front"
 	"smithy/prim"
 )
 
@@ -98,7 +99,7 @@ func isTrue(v prim.Value) bool { return prim.As[prim.Small](v) != 0 }
 func (r *runner) record(e *api.Exp, at *scope) prim.Value {
 	prim.Must(len(e.Labels) == len(e.Kids))
 	fields := make([]prim.Value, len(e.Kids))
-	for i, place := range places(e.Labels) {
+	for i, place := range front.Places(e.Labels) {
 		fields[place] = r.exp(&e.Kids[i], at)
 	}
 	return prim.Pack(fields...)

@@ -3,6 +3,7 @@ package source
 import (
 	"smithy/api"
 	"smithy/big"
+	"smithy/front"
 	"smithy/prim"
 )
 
@@ -67,7 +68,7 @@ func (r *runner) fitCon(p *api.Pat, v prim.Value, at *scope) (inner *scope, fits
 func (r *runner) fitRecord(p *api.Pat, v prim.Value, at *scope) (inner *scope, fits bool) {
 	prim.Must(len(p.Labels) == len(p.Kids))
 	all := fields(v, len(p.Kids))
-	for i, place := range places(p.Labels) {
+	for i, place := range front.Places(p.Labels) {
 		if at, fits = r.fit(&p.Kids[i], all[place], at); !fits {
 			return nil, false
 		}

@@ -1,11 +1,11 @@
 package types
 
 import (
-	"cmp"
 	"slices"
 	"strings"
 
 	"smithy/api"
+	"smithy/front"
 )
 
 // typeVars says what type variables stand for that are written somewhere.
@@ -103,7 +103,7 @@ func recordOf(labels []string, args []*ty) *ty {
 	for i := range args {
 		fields[i] = field{labels[i], args[i]}
 	}
-	slices.SortStableFunc(fields, func(a, b field) int { return compareLabels(a.label, b.label) })
+	slices.SortStableFunc(fields, func(a, b field) int { return front.CompareLabels(a.label, b.label) })
 	t := &ty{kind: kindRecord}
 	for i, f := range fields {
 		must(i == 0 || f.label != fields[i-1].label)
@@ -112,18 +112,3 @@ func recordOf(labels []string, args []*ty) *ty {
 	}
 	return t
 }
-
-// compareLabels is the order of labels. A number has no nought ahead: the longer one is the greater one.
-func compareLabels(a, b string) int {
-	switch m, n := isNumber(a), isNumber(b); {
-	case m && n:
-		return cmp.Or(cmp.Compare(len(a), len(b)), cmp.Compare(a, b))
-	case m:
-		return -1
-	case n:
-		return 1
-	}
-	return cmp.Compare(a, b)
-}
-
-func isNumber(label string) bool { return label != "" && label[0] >= '0' && label[0] <= '9' }

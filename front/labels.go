@@ -1,4 +1,4 @@
-package source
+package front
 
 import (
 	"cmp"
@@ -6,13 +6,13 @@ import (
 	"strings"
 )
 
-// places are the places of labels, as they are written, in their order.
-func places(labels []string) []int {
+// Places are the places of labels, as they are written, in their order.
+func Places(labels []string) []int {
 	order := make([]int, len(labels))
 	for i := range order {
 		order[i] = i
 	}
-	slices.SortFunc(order, func(i, j int) int { return compareLabels(labels[i], labels[j]) })
+	slices.SortFunc(order, func(i, j int) int { return CompareLabels(labels[i], labels[j]) })
 	places := make([]int, len(labels))
 	for place, i := range order {
 		places[i] = place
@@ -20,9 +20,9 @@ func places(labels []string) []int {
 	return places
 }
 
-// compareLabels is below 0, if a is ahead of b in the order of labels: numbers by their value, ahead of names, these byte
+// CompareLabels is below 0, if a is ahead of b in the order of labels: numbers by their value, ahead of names, these byte
 // by byte. Numbers have no noughts ahead, so that the longer one is the greater one.
-func compareLabels(a, b string) int {
+func CompareLabels(a, b string) int {
 	switch x, y := isNumber(a), isNumber(b); {
 	case x && y:
 		return cmp.Or(cmp.Compare(len(a), len(b)), strings.Compare(a, b))

@@ -1,29 +1,30 @@
-package source
+package front
 
-import (
-	"smithy/api"
-	"smithy/prim"
-)
+import "smithy/api"
 
-// Declarations and patterns take no steps, so that trees that hold themselves would be gone through without end. Those to
-// which types were given are not so great, and not so deep.
+// Trees that hold themselves would be gone through without end. Those to which types were given are not so great, and not so
+// deep.
 const (
 	mostThings = 8 * api.MaxSource
 	mostNested = 8 * api.MaxDepth
 )
 
-// measurer goes through trees; left is how many things they may still have.
+// measurer goes through trees; left is how many things they may still have, below 0 once they are too great.
 type measurer struct{ left int }
 
-// measure lets the run be stuck, if declarations are too great to be gone through.
-func measure(l []api.Dec) {
+// Fits tells whether declarations are small enough to be gone through.
+func Fits(l []api.Dec) bool {
 	m := &measurer{mostThings}
 	row(m, l, 0, m.dec)
+	return m.left >= 0
 }
 
 // row measures things that are so deep in others.
 func row[T any](m *measurer, l []T, deep int, one func(x *T, deep int)) {
-	prim.Must(len(l) <= m.left && deep < mostNested)
+	if len(l) > m.left || deep == mostNested {
+		m.left = -1
+		return
+	}
 	m.left -= len(l)
 	for i := range l {
 		one(&l[i], deep+1)

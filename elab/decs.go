@@ -103,13 +103,11 @@ func (m *maker) fun(f *api.Fun, at *scope) api.Core {
 	return c
 }
 
-// clauses is what comes of the first clause that arguments fit. Only those are looked at that some clause asks about.
+// clauses is what comes of the first clause that arguments fit, a case as of rules. Only those arguments are looked at that some
+// clause asks about, or the first one.
 func (m *maker) clauses(l []api.Clause, args []string, at *scope) api.Core {
 	asked := askedFor(l, len(args))
 	if len(asked) == 0 {
-		if len(l) == 1 {
-			return m.exp(&l[0].E, aliased(&l[0], args, nil, at))
-		}
 		asked = []int{0}
 	}
 	rows := make([]api.Row, len(l))

@@ -44,11 +44,9 @@ func (m *maker) bound(p *api.Pat, of, otherwise api.Core, at *scope, behind func
 	return cases(of, otherwise, []api.Row{{S: s, E: behind(at)}})
 }
 
-// rules is what comes of the first rule that a value fits, or otherwise.
+// rules is what comes of the first rule that a value fits, or otherwise. They make a case, also where there is nothing to ask:
+// whoever counts cases counts one for each fn, fun, case and handle.
 func (m *maker) rules(l []api.Rule, of, otherwise api.Core, at *scope) api.Core {
-	if len(l) == 1 {
-		return m.bound(&l[0].P, of, otherwise, at.within(), func(at *scope) api.Core { return m.exp(&l[0].E, at) })
-	}
 	var rows []api.Row
 	for i := range l {
 		inner := at.within()

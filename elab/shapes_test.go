@@ -88,7 +88,8 @@ func TestShapes(t *testing.T) {
 		{"val (x, y) = (1, 2) val 1 = x", []string{"[0/1 _ _] | Bind", "int | Bind"}},
 		{"val x = 1 handle E => 2 | F 1 => 3 | Div => 4 | F n => n", []string{"exn(_) | exn(int) | exn(_) | exn(_) | again"}},
 		{"val x = 1 handle Div => 2", []string{"exn(_) | again"}},
-		{"val x = 1 val _ = 2 val y : int = 3 fun f x y = x fun g () = 1 val h = fn x => x val z = x handle _ => 1 val () = ()", nil},
+		{"val x = 1 val _ = 2 val y : int = 3 val () = ()", nil},
+		{"fun f x y = x fun g () = 1 val h = fn x => x val z = h handle _ => h val w = case z of x => x", []string{"_ | Match", "[0/1] | Match", "_ | Match", "_ | again", "_ | Match"}},
 	} {
 		c := made(t, typed(t, ahead+r.program))
 		if got := shapesOf(&c); !reflect.DeepEqual(got, r.want) {

@@ -148,8 +148,8 @@ func (m *maker) isShort(t *tree) bool {
 }
 
 const (
-	mostShort = 6  // how many terms a short one has
-	mostBytes = 16 // how many bytes a text has that may stand in one, how many limbs an integer
+	mostShort = 6  // how many terms a short one has at most
+	mostBytes = 16 // a text of so many bytes, an integer of so many limbs is not to stand in several places
 )
 
 // countShort is how many terms a short one has; more than it may have, if there is something else in it.

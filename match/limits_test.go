@@ -262,3 +262,31 @@ func TestHardCases(t *testing.T) {
 		}
 	}
 }
+
+// R1: cases that stand in one another as deep as may be: in what is looked at, in a row, and where none fits.
+func TestDeepCases(t *testing.T) {
+	t.Parallel()
+	for _, text := range []string{
+		"(case $a (| 1 2) 3)", "(case $a (| x x) 3)", "(case $a (| [0/1 x] x) 3)", "(case x (| 1 $a) 3)", "(case x (| [1/2 x] $a) 3)", "(case x (| [0/1 x] $a) 3)", "(case [0 x x] (| [0/1 x _] $a) 3)", "(case x (| 1 2) (| {x 4} 1) $a)", "(case x (| [1/2 1 2] 5) $a)",
+	} {
+		inner := name("x")
+		nested := func(n int) api.Core {
+			c := inner
+			for range n {
+				c = termWith(t, text, map[string]api.Core{"a": c})
+			}
+			return fn("x", c)
+		}
+		for _, n := range []int{1000, 4000, 9000} {
+			c := nested(n)
+			if core.Check(c) != api.OK {
+				t.Fatalf("%s: %d in one another may not be", text, n)
+			}
+			s, list, e := match.Switches(c)
+			told, e2 := match.Warnings(c)
+			if e == api.OK && (core.Check(s) != api.OK || !reflect.DeepEqual(list, told)) || n == 1000 && e != api.OK || e2 != api.OK && e2 != api.ErrLong {
+				t.Errorf("%s: %d in one another: %v, %v", text, n, e, e2)
+			}
+		}
+	}
+}

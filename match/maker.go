@@ -29,7 +29,7 @@ type tooGreat struct{}
 
 // maker makes terms without cases.
 type maker struct {
-	binders map[string]int // how many times a name is bound in the term that is given
+	binders map[string]int // how many times a name is bound in the term that is given, but for those of shapes
 	known   map[string]int // the place that a name stands for
 	places  []place
 	named   int // how many names were made
@@ -42,7 +42,7 @@ func newMaker(c *api.Core) *maker {
 	return m
 }
 
-// countBinders counts how many times each name is bound in a term.
+// countBinders counts how many times each name is bound in a term. Names of shapes are not: what is made has none of them.
 func (m *maker) countBinders(c *api.Core) {
 	for _, name := range bound(c) {
 		m.binders[name]++
@@ -51,17 +51,7 @@ func (m *maker) countBinders(c *api.Core) {
 		m.countBinders(&c.Kids[i])
 	}
 	for i := range c.Rows {
-		m.countNamed(&c.Rows[i].S)
 		m.countBinders(&c.Rows[i].E)
-	}
-}
-
-func (m *maker) countNamed(s *api.Shape) {
-	if s.Name != "" {
-		m.binders[s.Name]++
-	}
-	for i := range s.Kids {
-		m.countNamed(&s.Kids[i])
 	}
 }
 
@@ -76,7 +66,7 @@ func bound(c *api.Core) []string {
 	return nil
 }
 
-// newName is a name that is nowhere bound.
+// newName is a name that is bound nowhere else.
 func (m *maker) newName(like string) string {
 	for {
 		m.named++

@@ -16,7 +16,7 @@ type place struct {
 	fields  []int // the places of its own fields; 0: none as yet
 }
 
-// newPlace is the number of a new place, of which there is none by 0.
+// newPlace is the number of a new place, from 1 on.
 func (m *maker) newPlace(p place) int {
 	m.places = append(m.places, p)
 	return len(m.places) - 1

@@ -51,12 +51,23 @@ func (r *Run) divided(a, b api.Int) (q, rest api.Int) {
 	return q, rest
 }
 
-// digits is the text of an integer. That is not worked out where it must be too long: a limb is more than nine digits.
+// digits is the text of an integer. That is not worked out where it must be too long: it would take long, and cost nothing.
 func (r *Run) digits(a api.Int) Value {
-	if len(a.Mag)-1 > api.MaxString/9 {
+	if leastDigits(a.Mag) > api.MaxString {
 		return r.RaiseBuiltIn(api.ExnSize)
 	}
 	return r.text(big.Text(a))
+}
+
+// leastDigits is how many decimal digits a magnitude has at least: as many as the power of two that its first bit stands for,
+// by the logarithm of 2, cut off.
+func leastDigits(mag []uint32) int {
+	n := len(mag)
+	if n == 0 {
+		return 1
+	}
+	exponent := 32*(n-1) + bits.Len32(mag[n-1]) - 1
+	return exponent*30102999/100000000 + 1
 }
 
 // reals are the primitives of reals.

@@ -205,6 +205,16 @@ func TestTooManyLimbs(t *testing.T) {
 		{"div", v{limbs(2*api.MaxLimbs+1, false), limbs(api.MaxLimbs+1, false)}, "raises Size"},
 		{"div", v{number(1), limbs(1<<20, true)}, "~1"},
 	})
+	ten := "1" + strings.Repeat("0", api.MaxString)
+	least := big.Sub(huge(ten).(api.Int), big.Of(1)) // of just so many digits
+	hold(t, []row{
+		{"itext", v{huge(ten)}, "raises Size"},
+		{"itext", v{least}, strconv.Quote(strings.Repeat("9", api.MaxString))},
+		{"itext", v{big.Neg(least)}, "raises Size"},
+		{"itext", v{huge(ten[:len(ten)-1])}, strconv.Quote(ten[:len(ten)-1])},
+		{"itext", v{huge("~" + ten[:len(ten)-1])}, "raises Size"},
+		{"itext", v{huge("~" + ten[:len(ten)-2])}, strconv.Quote("~" + ten[:len(ten)-2])},
+	})
 	if n := len(big.Text(limbs(6803, false).(api.Int))); n > api.MaxString || n < api.MaxString-10 {
 		t.Errorf("a text of %d bytes", n)
 	}

@@ -28,7 +28,7 @@ const library = " bytes cmp container/heap errors iter maps math math/bits slice
 func calls() map[string]string {
 	return map[string]string{
 		"api": "", "big": "", "world": "", "lex": "big", "syntax": "big lex", "types": "big syntax front", "source": "big world front prim", "core": "big world prim", "elab": "big core front", "match": "big core",
-		"flow": "big world", "close": "core flow", "opt": "big flow", "word": "world", "heap": "", "gcrt": "", "bigrt": "gcrt", "basisrt": "gcrt bigrt", "data": "flow word gcrt bigrt basisrt",
+		"flow": "big world prim", "close": "core flow", "opt": "big flow", "word": "world", "heap": "", "gcrt": "", "bigrt": "gcrt", "basisrt": "gcrt bigrt", "data": "flow word gcrt bigrt basisrt",
 		"front": "", "prim": "big world", "colour": "word", "x64": "", "machine": "world x64", "asm": "x64", "emit": "word colour x64 asm", "elf": "",
 		"image": "big world lex syntax types source core elab match flow close opt word heap gcrt bigrt basisrt data colour x64 machine asm emit elf",
 	}

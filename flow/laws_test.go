@@ -11,26 +11,32 @@ import (
 	"smithy/flow"
 )
 
-// P10.4: with every number of steps: more steps have done no less, and what has ended has ended.
+// P10.4: more steps have done no less, and what has ended has ended: with every number of steps up to some behind the end, or, if
+// there is none by then, up to 500; and with some greater ones.
 func TestMoreSteps(t *testing.T) {
 	m := &maker{Rand: rand.New(rand.NewSource(2)), wrong: 200}
 	var ended [3]int
 	for range 600 {
 		p := m.program()
 		var before api.Outcome
-		for fuel := range 152 {
-			if fuel >= 150 {
-				fuel = []int{1000, api.MaxFuel}[fuel-150]
-			}
+		hold := func(fuel int) {
 			out := runIn(t, p, smallWorld(), fuel)
 			if before.Status != api.Running && !reflect.DeepEqual(out, before) || !isBeginning(before.Trace, out.Trace) {
 				t.Fatalf("%d steps: %+v, and ahead of it %+v\n%s", fuel, out, before, shown(p))
 			}
 			before = out
 		}
+		for fuel, behind := 0, 0; fuel < 500 && behind < 20; fuel++ {
+			hold(fuel)
+			behind += min(before.Status, 1)
+		}
+		for _, fuel := range []int{501, 1000, api.MaxFuel - 1, api.MaxFuel} {
+			hold(fuel)
+		}
 		ended[before.Status]++
 	}
-	if slices.Min(ended[:]) < 50 {
+	t.Log(ended)
+	if slices.Min(ended[:]) < 30 {
 		t.Errorf("%v", ended)
 	}
 }

@@ -156,7 +156,7 @@ func TestPrimitives(t *testing.T) {
 		if slices.Contains(names, r.want) && r.op != "get !5" {
 			end-- // there is no ret then
 		}
-		if !endsWith(t, p, end) {
+		if !endsWith(t, p, end, r.op == "itext $long") {
 			t.Errorf("%s%s: costs another number than %d", r.lets, r.op, r.cost)
 		}
 		name, _, _ := strings.Cut(r.op, " ")
@@ -169,15 +169,15 @@ func TestPrimitives(t *testing.T) {
 	}
 }
 
-// endsWith tells whether a program takes so many steps to come to its end. Where these are many not each smaller number is
-// looked at.
-func endsWith(t testing.TB, p api.Program, steps int) bool {
+// endsWith tells whether a program takes so many steps to come to its end. Each smaller number is looked at, but where a run
+// takes long: there those at both ends, and some between.
+func endsWith(t testing.TB, p api.Program, steps int, long bool) bool {
 	t.Helper()
 	for n := 0; n < steps; n++ {
 		if run(t, p, n).Status != api.Running {
 			return false
 		}
-		if steps > 300 && n >= 5 && n < steps-5 {
+		if long && n >= 5 && n < steps-5 {
 			n = min(n+97, steps-5)
 		}
 	}

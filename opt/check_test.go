@@ -119,6 +119,7 @@ func TestRefused(t *testing.T) {
 
 // P12.1: just those programs are refused that may not be: programs at random, with something changed in them.
 func TestChanged(t *testing.T) {
+	t.Parallel()
 	var verdicts [2]int
 	m := &maker{Rand: rand.New(rand.NewSource(4))}
 	for i := range 6000 {

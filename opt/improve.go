@@ -33,13 +33,6 @@ func (k *improver) read(l ...api.Atom) {
 	}
 }
 
-// unread takes back that an atom is read.
-func (k *improver) unread(a api.Atom) {
-	if isLocal(a) {
-		k.reads[a.V]--
-	}
-}
-
 func (k *improver) flow(n *node) *node {
 	n.A = k.atom(n.A)
 	k.put(n.Args)
@@ -125,7 +118,7 @@ func (k *improver) learnFrom(n *node) {
 func (k *improver) choice(n *node) *node {
 	f := k.of(n.A)
 	switch {
-	case isSmall(f.sort) && f.some:
+	case f.some:
 		return k.flow(n.below[0])
 	case isSmall(f.sort) && f.tagged && f.tag == 0:
 		return k.flow(n.below[1])
@@ -194,13 +187,11 @@ func (k *improver) try(n *node) *node {
 	first := n.below[0]
 	switch {
 	case first.Kind == api.FlowRet:
-		k.unread(first.A)
 		set := api.Op{Kind: api.OpAtom, Args: []api.Atom{first.A}}
 		return k.let(&node{Flow: api.Flow{Kind: api.FlowLet, V: n.W, Op: set}, below: n.below[2:]})
 	case first.Kind == api.FlowRaise && n.raisesAgain():
 		return first
 	case first.Kind == api.FlowRaise && isSteady(n.V) && isPlain(first.A):
-		k.unread(first.A)
 		k.learn(n.V, fact{same: first.A})
 		n.below[0] = n.below[1]
 		k.fun.raiseAgain(n)

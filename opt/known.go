@@ -18,7 +18,7 @@ type fact struct {
 	f      int
 }
 
-// noted is how many parts may be known of a value that is not made in sight: what is known of it is made anew for each.
+// noted is how many parts of a value become known by being taken out: what is known of it is made anew for each.
 const noted = 16
 
 // memory is what is known at a node.
@@ -103,7 +103,7 @@ func (m *memory) note(a api.Atom, sort byte) {
 func (m *memory) notePart(a api.Atom, sort byte, n int, part api.Atom) {
 	m.note(a, sort)
 	f := m.of(a)
-	if !isLocal(a) || f.sort != sort || f.whole || n >= noted {
+	if !isLocal(a) || f.sort != sort || n >= noted {
 		return
 	}
 	parts := make([]api.Atom, max(len(f.parts), n+1))

@@ -19,6 +19,7 @@ type measure struct {
 	exits  int     // nodes with which it returns, or goes on in its place
 	ends   []*node // these nodes, if they are few
 	raises bool    // it may raise
+	heavy  bool    // it should not stand in several places
 }
 
 // layer lays functions into the places of calls, and what stands behind a try into the place of what returns to it.
@@ -89,11 +90,11 @@ func (l *layer) measured(n *node) measure {
 
 // weigh is how great a body is that begins with a node, and goes on with such ones.
 func (l *layer) weigh(n *node, kids []measure) measure {
-	m := measure{size: 1}
+	m := measure{size: 1, heavy: n.isHeavy()}
 	for i, kid := range kids {
 		m.size += kid.size
 		m.high = max(m.high, kid.high)
-		m.raises = m.raises || kid.raises
+		m.raises, m.heavy = m.raises || kid.raises, m.heavy || kid.heavy
 		if n.Kind != api.FlowTry || i == 2 {
 			m.goOn(kid)
 		}
@@ -137,16 +138,16 @@ func (l *layer) mayRaise(o *api.Op) bool {
 
 // mayLay tells whether a function may be laid into the place of a call; the room for it is taken then.
 func (l *layer) mayLay(f int, args []api.Atom) bool {
-	size, once := l.of[f].size, l.isOnce(f)
-	if f == 0 || l.own[f] || !l.funs[f].steady || !arePlain(args) || size > l.room {
+	m, once := l.of[f], l.isOnce(f)
+	if !l.funs[f].steady || slices.ContainsFunc(args, isLong) || m.size > l.room {
 		return false
 	}
-	if !once && (l.turns[f] || size > short || size > l.grow) {
+	if !once && (l.turns[f] || m.heavy || m.size > short || m.size > l.grow) {
 		return false
 	}
-	l.room -= size
+	l.room -= m.size
 	if !once {
-		l.grow -= size
+		l.grow -= m.size
 	}
 	return true
 }
@@ -154,7 +155,7 @@ func (l *layer) mayLay(f int, args []api.Atom) bool {
 // mayJoin tells whether what stands behind a body may be laid into the places of all its ends; the room for it is taken then.
 func (l *layer) mayJoin(m, next measure) bool {
 	more := max(m.exits-1, 0) * next.size
-	if m.exits > len(m.ends) || more > 0 && next.size > brief || more > l.room || more > l.grow {
+	if m.exits > len(m.ends) || more > 0 && (next.heavy || next.size > brief) || more > l.room || more > l.grow {
 		return false
 	}
 	l.room -= more
@@ -164,7 +165,7 @@ func (l *layer) mayJoin(m, next measure) bool {
 
 // join lets each end of a body set a local to what it returns, and go on with what stands behind it.
 func (l *layer) join(m measure, local int, next *node, nm measure) measure {
-	out := measure{size: m.size, high: m.high, raises: m.raises}
+	out := measure{size: m.size, high: m.high, raises: m.raises, heavy: m.heavy}
 	for i, end := range m.ends {
 		v, then, tm := local, next, nm
 		if i+1 < len(m.ends) {
@@ -176,7 +177,7 @@ func (l *layer) join(m measure, local int, next *node, nm measure) measure {
 		*end = node{Flow: api.Flow{Kind: api.FlowLet, V: v, Op: end.returns()}, below: []*node{then}}
 		out.size += tm.size
 		out.high = m.high + nm.high
-		out.raises = out.raises || tm.raises
+		out.raises, out.heavy = out.raises || tm.raises, out.heavy || tm.heavy
 		out.goOn(tm)
 	}
 	return out

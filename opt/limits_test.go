@@ -1,8 +1,10 @@
 package opt_test
 
 import (
+	"reflect"
 	"slices"
 	"strconv"
+	"strings"
 	"testing"
 
 	"smithy/api"
@@ -70,6 +72,9 @@ func great(t *testing.T, what string, p, more api.Program) {
 			}
 		}
 	}
+	if size(q) > 2*size(p)+200 {
+		t.Errorf("%s: %d nodes and functions come of %d", what, size(q), size(p))
+	}
 	t.Logf("%s: %d nodes and functions of %d are left", what, size(q), size(p))
 }
 
@@ -94,6 +99,7 @@ func filled(p api.Program, many int) api.Program {
 
 // P12.1: no error for just MaxCode functions and nodes, however they are shared out.
 func TestManyNodes(t *testing.T) {
+	t.Parallel()
 	const many = api.MaxCode
 	chain := func(functions int, body func(next int) api.Flow) api.Program {
 		var p api.Program
@@ -138,6 +144,7 @@ func TestManyNodes(t *testing.T) {
 
 // P12.1: no error for what is just MaxTerm deep, in each way.
 func TestDeep(t *testing.T) {
+	t.Parallel()
 	const deep = api.MaxTerm
 	ways := map[string]func(f api.Flow) api.Flow{
 		"lets that nothing needs": func(f api.Flow) api.Flow { return let(1, atomOp(whole(1)), f) }, "lets": func(f api.Flow) api.Flow { return let(1, says("a"), f) }, "one of two": func(f api.Flow) api.Flow { return choose(local(0), f, ret(whole(1))) }, "the other one": func(f api.Flow) api.Flow { return choose(local(0), ret(whole(1)), f) }, "a switch": func(f api.Flow) api.Flow {
@@ -165,6 +172,7 @@ func TestDeep(t *testing.T) {
 
 // P12.1: what would become greater, or deeper, than may be, if it were laid in its calls' places, or behind a try.
 func TestTooGreatToLay(t *testing.T) {
+	t.Parallel()
 	// many calls of a short function
 	short := api.Func{Params: 1, Locals: 2, Body: let(1, says("a"), let(1, says("b"), let(1, prims("add", local(0), whole(1)), let(1, says("c"), ret(local(1))))))}
 	f := ret(whole(1))
@@ -174,6 +182,14 @@ func TestTooGreatToLay(t *testing.T) {
 	great(t, "calls below each other", api.Program{Funs: []api.Func{{Locals: 1, Body: f}, short}}, api.Program{})
 	side := api.Program{Funs: []api.Func{{Locals: 3, Body: hidden(0, small(1), let(0, prims("ref", local(0)), bush(39000, let(0, call(1, whole(1)), ret(local(0))))))}, short}}
 	great(t, "calls beside each other", side, api.Program{})
+	less := api.Program{Funs: []api.Func{{Locals: 3, Body: hidden(0, small(1), let(0, prims("ref", local(0)), bush(9000, let(0, call(1, whole(1)), ret(local(0))))))}, {Params: 1, Locals: 2, Body: lets(7, 1, says("s"), ret(local(0)))}}}
+	great(t, "fewer of them", less, api.Program{})
+	applied := api.Func{Params: 2, Locals: 3, Body: lets(3000, 2, says("x"), ret(local(1)))}
+	both := api.Program{Funs: []api.Func{{Locals: 4, Body: let(0, api.Op{Kind: api.OpClosure, F: 1, Args: atoms{whole(1)}}, hidden(1, local(0), let(2, call(1, local(0), local(1)), let(3, api.Op{Kind: api.OpApply, Args: atoms{local(1), local(2)}}, ret(local(3))))))}, applied}}
+	great(t, "a great function that is called once, and applied", both, api.Program{})
+	if n := size(made(t, both)); n > size(both) {
+		t.Errorf("%d nodes and functions come of %d", n, size(both))
+	}
 	// functions that are as deep as may be, called once, at the end and ahead of something
 	long := api.Func{Locals: 1, Body: lets(api.MaxTerm-1, 0, says("x"), ret(local(0)))}
 	great(t, "a deep function in the place of a deep one", api.Program{Funs: []api.Func{{Locals: 1, Body: lets(api.MaxTerm-1, 0, says("y"), tail(1, nil))}, long}}, api.Program{})
@@ -258,4 +274,88 @@ func TestManyParts(t *testing.T) {
 		f = let(v, says("a"), f)
 	}
 	great(t, "unsteady locals", one(10000, f), api.Program{})
+}
+
+// weight is how many limbs, atoms and tags something has in all.
+func weight(x reflect.Value) int {
+	n := 0
+	switch x.Kind() {
+	case reflect.Slice:
+		if kind := x.Type().Elem().Kind(); kind == reflect.Uint32 || kind == reflect.Int {
+			return x.Len()
+		}
+		for i := range x.Len() {
+			n += 1 + weight(x.Index(i))
+		}
+	case reflect.Struct:
+		for i := range x.NumField() {
+			n += weight(x.Field(i))
+		}
+	}
+	return n
+}
+
+// noHeavier holds a program against what is made of it: that takes not much more room.
+func noHeavier(t *testing.T, what string, p api.Program) {
+	t.Helper()
+	q := made(t, p)
+	alike(t, p, q, worlds()[0], 20, 3000)
+	if was, is := weight(reflect.ValueOf(p)), weight(reflect.ValueOf(q)); is > was+was/2 {
+		t.Errorf("%s: it weighs %d, not %d", what, is, was)
+	}
+}
+
+// What takes much room stands in no more places than it did: long integers, and nodes with many arguments or tags.
+func TestHeavy(t *testing.T) {
+	calls := ret(whole(1))
+	for range 400 {
+		calls = let(1, call(1, local(0)), let(1, prims("print", local(1)), calls))
+	}
+	long, many := slices.Repeat(atoms{limbs(50)}, 10), slices.Repeat(atoms{whole(1)}, 900)
+	kept := func(o api.Op) api.Flow { // a body that keeps what an operation makes
+		return let(1, says("k"), let(1, o, let(2, prims("ref", local(1)), let(2, prims("set", local(2), local(2)), ret(word("a"))))))
+	}
+	wide := api.Flow{Kind: api.FlowSwitch, A: local(0), Kids: kids{ret(word("f"))}}
+	for i := range 100 {
+		wide.Tags, wide.Kids = append(wide.Tags, i), append(kids{raise(word("g"))}, wide.Kids...)
+	}
+	for what, body := range map[string]api.Flow{
+		"a long integer": kept(prims("ref", limbs(5000))), "a block of long ones": kept(api.Op{Kind: api.OpBlock, Args: long}), "a block of many": kept(api.Op{Kind: api.OpBlock, Args: many}), "a switch": wide, "what is returned": let(1, says("r"), ret(limbs(500))), "arguments": let(1, says("r"), tail(2, many)),
+	} {
+		p := api.Program{Funs: []api.Func{{Locals: 2, Body: hidden(0, small(555), calls)}, {Params: 1, Locals: 4, Body: body}, {Params: len(many), Locals: len(many), Body: ret(local(0))}}}
+		noHeavier(t, what, p)
+		twice := let(3, says("x"), tail(1, atoms{local(0)}))
+		noHeavier(t, what+" in tails", api.Program{Funs: []api.Func{{Locals: 4, Body: let(3, prims("ref", small(1)), let(0, prims("get", local(3)), let(2, atomOp(local(0)), let(0, atomOp(local(3)), bush(200, twice)))))}, p.Funs[1], p.Funs[2]}})
+	}
+	// copies of a long integer are not put in, whatever it comes through
+	var b strings.Builder
+	for i := range 300 {
+		b.WriteString(`let ` + strconv.Itoa(i+3) + ` = block 0 v` + strconv.Itoa(i%3) + ` v` + strconv.Itoa(i+2) + `; `)
+	}
+	noHeavier(t, "copies", programWith(t, given(), `let 0 = atom $more; let 1 = block 0 v0; let 1 = field 0 v1; let 2 = call f1 $most; `+b.String()+`let 400 = eq v301 v302; raise v400`, `1: let 1 = closure f2 v0; let 1 = apply v1 v0; ret v1`, `2: let 2 = capture 0 v0; ret v2`))
+	noHeavier(t, "an argument", programWith(t, given(), `let 0 = call f1 $most; raise v0`, `1: let 1 = block 0 v0 v0 v0 v0 v0; ret v1`))
+	// what is behind a try is not laid in several places, if it takes much room
+	for what, o := range map[string]api.Op{"behind a try": {Kind: api.OpBlock, Args: long}, "more behind a try": {Kind: api.OpBlock, Args: many}} {
+		noHeavier(t, what, one(4, hidden(0, small(1), try(choose(local(0), ret(word("a")), choose(local(0), ret(word("b")), ret(word("c")))), 1, raise(local(1)), 1, let(3, prims("print", local(1)), let(2, o, raise(local(2))))))))
+	}
+}
+
+// P12.2: handed in again and again, what was answered comes to rest: functions that call one another are not laid in one another
+// without end.
+func TestAtRest(t *testing.T) {
+	for _, r := range []funs{
+		{`let 9 = call f1 5; let 9 = call f2 5; ret v9`, `1: let 1 = le v0 0; if v1 { ret 1 } { let 2 = print "e"; let 3 = sub v0 1; tail f2 v3 }`, `1: let 1 = le v0 0; if v1 { ret 0 } { let 2 = print "o"; let 3 = sub v0 1; tail f1 v3 }`},
+		{`let 9 = call f1; let 9 = call f2; let 9 = call f3; ret v9`, `let 0 = print "a"; let 0 = call f2; let 1 = print "d"; ret v0`, `let 0 = print "b"; let 0 = call f3; ret v0`, `let 0 = inputline 1; let 0 = size v0; let 0 = chr v0; if v0 { tail f1 } { ret 1 }`},
+		{`let 0 = inputline 1; let 0 = size v0; let 0 = chr v0; if v0 { tail f1 } { ret 1 }`, `let 0 = call f0; let 1 = print "x"; tail f0`},
+		{`let 9 = call f1 5; let 8 = call f1 6; ret v9`, `1: let 1 = sub v0 1; let 2 = print "a"; tail f1 v1`},
+		{`try { let 9 = call f1 5; let 9 = call f1 6; ret v9 } catch 0 { tail f1 7 } then 9; ret v9`, `1: let 1 = chr v0; let 2 = sub v0 1; let 3 = call f1 v2; ret v3`},
+	} {
+		p := program(t, r...)
+		q := again(t, p, 3)
+		last := again(t, q, 20)
+		if size(last) > size(q) {
+			t.Errorf("%d nodes, then %d\n%s\n%s", size(q), size(last), shown(q), shown(last))
+		}
+		alike(t, p, last, worlds()[0], 200, 1000)
+	}
 }

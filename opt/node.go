@@ -47,16 +47,11 @@ func isLocal(a api.Atom) bool { return a.Kind == api.AtomVar && isSteady(a.V) }
 // anew, and reckoning with great ones takes long.
 const longest = 8
 
+// isLong tells whether an atom is too long to be put in.
+func isLong(a api.Atom) bool { return a.Kind == api.AtomInt && len(a.Int.Mag) > longest }
+
 // isPlain tells whether an atom may be put into the place of a local.
-func isPlain(a api.Atom) bool {
-	switch a.Kind {
-	case api.AtomVar:
-		return isSteady(a.V)
-	case api.AtomInt:
-		return len(a.Int.Mag) <= longest
-	}
-	return true
-}
+func isPlain(a api.Atom) bool { return !isLong(a) && (a.Kind != api.AtomVar || isSteady(a.V)) }
 
 func arePlain(l []api.Atom) bool {
 	return !slices.ContainsFunc(l, func(a api.Atom) bool { return !isPlain(a) })
@@ -90,6 +85,14 @@ func (n *node) calls() (function *int, args *[]api.Atom, does bool) {
 
 // isClosure tells whether a node makes a closure.
 func (n *node) isClosure() bool { return n.Kind == api.FlowLet && n.Op.Kind == api.OpClosure }
+
+// widest is how many arguments and tags a node may have that is laid into several places.
+const widest = 16
+
+// isHeavy tells whether a node takes so much room that it should not stand in several places.
+func (n *node) isHeavy() bool {
+	return len(n.Args)+len(n.Op.Args)+len(n.Tags) > widest || isLong(n.A) || slices.ContainsFunc(n.Args, isLong) || slices.ContainsFunc(n.Op.Args, isLong)
+}
 
 // raisesAgain tells whether the handler of a try raises what it was given, and does nothing beside that which may be seen.
 func (n *node) raisesAgain() bool {

@@ -18,7 +18,7 @@ func (p *program) patched() map[patch]struct{} {
 	for _, f := range p.funs {
 		made := map[int]int{}
 		f.body.each(func(n *node) {
-			if n.isClosure() && isSteady(n.V) {
+			if n.isClosure() {
 				made[n.V] = n.Op.F
 			}
 		})
@@ -33,7 +33,7 @@ func (p *program) patched() map[patch]struct{} {
 
 // target is the function of a closure that is patched, if it is one of those that were made in sight.
 func target(a api.Atom, made map[int]int) int {
-	if f, is := made[a.V]; is && a.Kind == api.AtomVar {
+	if f, is := made[a.V]; is && isLocal(a) {
 		return f
 	}
 	return anyFunction

@@ -103,6 +103,7 @@ func (b body) program(t testing.TB) api.Program {
 
 // P12.1, P12.2: each thing in each place, in all worlds, and, one of so many, in each place that is in each other one.
 func TestPlaces(t *testing.T) {
+	t.Parallel()
 	const oneOf = 4
 	all := places()
 	names := slices.Sorted(maps.Keys(all))

@@ -176,6 +176,7 @@ func forms(r primRow) []funs {
 
 // P12.1: each primitive, at ordinary arguments and at the edges that chapter 10 names, in all forms.
 func TestPrimitives(t *testing.T) {
+	t.Parallel()
 	met := map[string]int{}
 	rows := slices.Concat(numberRows(), realRows(), textRows(), thingRows(), equalRows())
 	for _, end := range []string{"0", "255", "256", "~1", "$more"} {
@@ -214,6 +215,7 @@ const kindsOf = "add:aa sub:aa mul:aa neg:a div:aa mod:aa lt:aa le:aa radd:xx rs
 // Of values of other kinds a primitive is stuck: so is what is made of the program, whether something needs the answer or not,
 // and whether the values are known or not.
 func TestWrongKinds(t *testing.T) {
+	t.Parallel()
 	const values = `let 10 = atom 0; let 11 = atom $inf; let 12 = atom "a"; let 13 = atom #0; let 14 = ref 1; let 15 = block 0 1 #0; let 16 = block 1 v15; let 17 = vector v16; let 18 = bnew 2; let 19 = closure f1; let 20 = block 0; `
 	hidden := values
 	for v := 10; v <= 20; v++ {

@@ -650,6 +650,7 @@ func programFlow(t testing.TB, program string) (api.Program, bool) {
 
 // P12.1, P12.2: what is made of programs at random that have types does what they do; so does what is made of that.
 func TestRandomPrograms(t *testing.T) {
+	t.Parallel()
 	const each = 400
 	all := &tally{ends: map[string]int{}}
 	shared(t, func(t *testing.T, seed int) {

@@ -308,16 +308,104 @@ func (m *maker) deed() how {
 	return all[m.Intn(len(all))]
 }
 
-func TestQuick(t *testing.T) {
+// P12.1, P12.2: what is made of raw programs at random does what they do; so does what is made of that. Some of them are stuck.
+func TestRandom(t *testing.T) {
+	t.Parallel()
+	const each = 1000
+	all := &tally{ends: map[string]int{}}
 	shared(t, func(t *testing.T, seed int) {
 		m := &maker{Rand: rand.New(rand.NewSource(int64(seed)))}
-		for i := range 3000 {
+		for i := range each {
 			m.wrong = []int{0, 400, 60}[i%3]
 			p := m.program()
 			q := made(t, p)
-			alike(t, p, q, worlds()[i%3], 40, m.Intn(100), m.Intn(300), 1000)
-			r := again(t, q, 1)
-			alike(t, p, r, worlds()[i%3], 40, m.Intn(100), m.Intn(300), 1000)
+			w, some := worlds()[m.Intn(3)], []int{40, m.Intn(100), m.Intn(300), 1000}
+			all.add(alike(t, p, q, w, some...), p, q)
+			alike(t, p, again(t, q, 1+m.Intn(3)), w, some...)
 		}
 	})
+	const many = hands * each
+	t.Logf("%d held, %d printed, ends %v, %d nodes of %d are left", all.held, all.printed, all.ends, all.after, all.before)
+	if all.held != many || all.printed < many/4 || all.ends["0"] < many/10 || all.ends["1"] < many/10 || all.ends["stuck"] < many/20 || all.ends["running"] < many/50 {
+		t.Error("too many programs of one kind")
+	}
+}
+
+// few makes a body in which some few locals, which are texts, are set and read again and again. It is told which of them are set.
+func (m *maker) few(deep int, set []int) api.Flow {
+	read := func() api.Atom {
+		if len(set) == 0 || m.Intn(5) == 0 {
+			return word(m.one("a", "b", "c"))
+		}
+		return local(set[m.Intn(len(set))])
+	}
+	with := func(v int) []int { return append(slices.Clone(set), v) }
+	v, w := m.Intn(4), m.Intn(4)
+	if deep <= 0 {
+		return []api.Flow{ret(read()), raise(read()), tail(2+m.Intn(2), atoms{read()}), ret(read())}[m.Intn(4)]
+	}
+	kid := func(set []int) api.Flow { return m.few(deep-1-m.Intn(2), set) }
+	switch m.Intn(14) {
+	case 11, 12:
+		m.locals++
+		v = m.locals
+		return let(v, api.Op{Kind: api.OpField, N: m.Intn(2), Args: atoms{local(7)}}, kid(with(v)))
+	case 0:
+		return let(5, prims("get", local(4)), choose(local(5), kid(set), kid(set)))
+	case 1, 2, 3:
+		return try(kid(set), v, kid(with(v)), w, kid(with(w)))
+	case 4:
+		return try(kid(set), v, raise(local(v)), w, kid(with(w)))
+	case 5, 6:
+		return let(6, prims("print", read()), kid(set))
+	case 7:
+		return let(v, call(2+m.Intn(2), read()), kid(with(v)))
+	case 8:
+		return let(v, atomOp(read()), kid(with(v)))
+	case 9:
+		return let(5, api.Op{Kind: api.OpBlock, Args: atoms{read(), read()}}, let(v, api.Op{Kind: api.OpField, N: m.Intn(2), Args: atoms{local(5)}}, kid(with(v))))
+	case 10:
+		return let(5, api.Op{Kind: api.OpPrim, Name: "get", Args: atoms{local(4)}}, let(4, prims("ref", small(m.Intn(2))), kid(set)))
+	}
+	return let(v, prims("cat", read(), read()), kid(with(v)))
+}
+
+// P12.1: locals that are set again and again, in bodies at random. The last of the functions that they call has one that is set
+// again behind a try; all of these locals are told in the end.
+func TestSetAgain(t *testing.T) {
+	t.Parallel()
+	const each = 1000
+	functions := program(t, `ret 1`, `ret 1`, `1: let 1 = cat v0 "x"; ret v1`, `1: try { let 0 = cat v0 "y"; let 1 = size v0; let 1 = sub v1 3; let 1 = chr v1; ret v0 } catch 2 { ret "h" } then 3; let 3 = cat v3 v0; ret v3`).Funs
+	all := &tally{ends: map[string]int{}}
+	shared(t, func(t *testing.T, seed int) {
+		m := &maker{Rand: rand.New(rand.NewSource(int64(100 + seed)))}
+		for range each {
+			p := api.Program{Funs: slices.Clone(functions)}
+			m.locals = 7
+			body := m.few(5, []int{0, 1, 2, 3})
+			pair := let(7, api.Op{Kind: api.OpBlock, Args: atoms{word("l"), word("r")}}, let(7, prims("ref", local(7)), let(7, prims("get", local(7)), told4(body))))
+			p.Funs[1] = api.Func{Params: m.Intn(5), Locals: m.locals + 1, Body: let(4, prims("ref", small(m.Intn(2))), pair)}
+			first := atoms{word("0"), word("1"), word("2"), word("3")}[:p.Funs[1].Params]
+			for v := p.Funs[1].Params; v < 4; v++ {
+				p.Funs[1].Body = let(v, atomOp(word(m.one("p", "q"))), p.Funs[1].Body)
+			}
+			p.Funs[0] = api.Func{Locals: 2, Body: try(tail(1, first), 0, ret(local(0)), 1, let(0, prims("print", local(1)), ret(local(0))))}
+			q := made(t, p)
+			all.add(alike(t, p, q, worlds()[0], 40, 100, 1000), p, q)
+			alike(t, p, again(t, q, 2), worlds()[0], 20, 100, 1000)
+		}
+	})
+	t.Logf("%d held, %d printed, ends %v, %d nodes of %d are left", all.held, all.printed, all.ends, all.after, all.before)
+	if all.held != hands*each || all.ends["0"] < all.held*9/10 {
+		t.Error("too many are stuck, or running")
+	}
+}
+
+// told4 tells the first four locals behind a body, whether that returns or raises.
+func told4(body api.Flow) api.Flow {
+	tell := ret(word("."))
+	for v := range 4 {
+		tell = let(6, prims("print", local(v)), tell)
+	}
+	return try(body, 5, let(6, prims("print", local(5)), ret(word("!"))), 6, let(6, prims("print", local(6)), tell))
 }

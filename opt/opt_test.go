@@ -19,7 +19,7 @@ import (
 // much deeper than flow is, or than functions call one another.
 func TestMain(m *testing.M) {
 	debug.SetGCPercent(1000)
-	debug.SetMaxStack(256 << 20)
+	debug.SetMaxStack(64 << 20)
 	os.Exit(m.Run())
 }
 

@@ -311,7 +311,7 @@ func (m *maker) deed() how {
 // P12.1, P12.2: what is made of raw programs at random does what they do; so does what is made of that. Some of them are stuck.
 func TestRandom(t *testing.T) {
 	t.Parallel()
-	const each = 1000
+	const each = 700
 	all := &tally{ends: map[string]int{}}
 	shared(t, func(t *testing.T, seed int) {
 		m := &maker{Rand: rand.New(rand.NewSource(int64(seed)))}
@@ -374,7 +374,7 @@ func (m *maker) few(deep int, set []int) api.Flow {
 // again behind a try; all of these locals are told in the end.
 func TestSetAgain(t *testing.T) {
 	t.Parallel()
-	const each = 1000
+	const each = 700
 	functions := program(t, `ret 1`, `ret 1`, `1: let 1 = cat v0 "x"; ret v1`, `1: try { let 0 = cat v0 "y"; let 1 = size v0; let 1 = sub v1 3; let 1 = chr v1; ret v0 } catch 2 { ret "h" } then 3; let 3 = cat v3 v0; ret v3`).Funs
 	all := &tally{ends: map[string]int{}}
 	shared(t, func(t *testing.T, seed int) {

@@ -201,7 +201,9 @@ func TestPrimitives(t *testing.T) {
 			}
 			for _, f := range forms(r) {
 				p := programWith(t, given(), f...)
-				alike(t, p, made(t, p), theWorld(), some...)
+				q := made(t, p)
+				alike(t, p, q, theWorld(), some...)
+				alike(t, p, again(t, q, 1), theWorld(), 3, 60, some[len(some)-1])
 			}
 		}
 	})

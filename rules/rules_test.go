@@ -82,6 +82,24 @@ func TestImports(t *testing.T) {
 	}
 }
 
+// LANGUAGE.md's second rule: in a package's folder there is no file beside the Go files.
+func TestGoFilesAlone(t *testing.T) {
+	err := filepath.WalkDir(root, func(path string, d fs.DirEntry, err error) error {
+		switch {
+		case err != nil:
+			return err
+		case d.IsDir() && path != root && (strings.HasPrefix(d.Name(), ".") || d.Name() == "sharedtests"):
+			return filepath.SkipDir
+		case !d.IsDir() && filepath.Dir(path) != root && !strings.HasSuffix(path, ".go"):
+			t.Errorf("%s is no Go file", path)
+		}
+		return nil
+	})
+	if err != nil {
+		t.Fatal(err)
+	}
+}
+
 // LANGUAGE.md's second rule: no line that speaks to the tools.
 func TestNoDirectives(t *testing.T) {
 	for _, path := range goFiles(t, false) {

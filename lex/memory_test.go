@@ -1,6 +1,7 @@
 package lex_test
 
 import (
+	"runtime"
 	"slices"
 	"strings"
 	"sync"
@@ -42,6 +43,7 @@ func TestTextsAreNew(t *testing.T) {
 			t.Errorf("%q lies within the text", w.Text)
 		}
 	}
+	runtime.KeepAlive(text) // else its memory might be given to a word
 }
 
 // R2, R3: with a mishap there are no words, without one no place; no words are a nil list.

@@ -3,6 +3,7 @@ package types_test
 import (
 	"cmp"
 	"reflect"
+	"runtime"
 	"slices"
 	"sync"
 	"testing"
@@ -58,11 +59,13 @@ func emptyLists(x reflect.Value) string {
 func TestOwnMemory(t *testing.T) {
 	l := parsed(t, everything)
 	all := rooms(reflect.ValueOf(l))
+	held := []any{l} // memory that nothing holds may be given to a later answer
 	for range 2 {
 		decs, values, e := types.Infer(l)
 		if e != api.OK {
 			t.Fatal(e)
 		}
+		held = append(held, decs, values)
 		for _, x := range []reflect.Value{reflect.ValueOf(decs), reflect.ValueOf(values)} {
 			all = append(all, rooms(x)...)
 			if l := emptyLists(x); l != "" {
@@ -79,6 +82,7 @@ func TestOwnMemory(t *testing.T) {
 			t.Error("two lists share memory")
 		}
 	}
+	runtime.KeepAlive(held)
 }
 
 // R3: an empty list that was handed in is a nil one in the answer.

@@ -1,0 +1,98 @@
+// Package build writes functions of words. What a loop or a condition does is told to it by closures.
+package build
+
+import (
+	"smithy/api"
+)
+
+// Reg is a register of the function that is being written.
+type Reg int
+
+const wordBytes = 8
+
+// Builder is a function that is being written.
+type Builder struct {
+	code   []api.Word
+	regs   int
+	slots  int
+	labels int
+}
+
+// Function is the function that is written.
+func Function(name string, params int, write func(b *Builder)) api.WordFunction {
+	b := &Builder{regs: params}
+	write(b)
+	return api.WordFunction{Name: name, Params: params, Regs: b.regs, Slots: b.slots, Code: b.code}
+}
+
+func (b *Builder) put(w api.Word) { b.code = append(b.code, w) }
+
+// set puts an instruction that sets a register of its own.
+func (b *Builder) set(w api.Word) Reg {
+	w.D = b.regs
+	b.regs++
+	b.put(w)
+	return Reg(w.D)
+}
+
+// Param is a parameter's register.
+func (b *Builder) Param(i int) Reg { return Reg(i) }
+
+// Const is a number.
+func (b *Builder) Const(x int64) Reg { return b.set(api.Word{Kind: api.WordConst, Imm: x}) }
+
+// Data is the address of a place in the data.
+func (b *Builder) Data(place int) Reg { return b.set(api.Word{Kind: api.WordData, Imm: int64(place)}) }
+
+// Heap is how many bytes the heap has.
+func (b *Builder) Heap() Reg { return b.set(api.Word{Kind: api.WordHeap}) }
+
+// Copy is what a is here, in a register that may be set to something else.
+func (b *Builder) Copy(a Reg) Reg { return b.set(api.Word{Kind: api.WordMove, A: int(a)}) }
+
+// Move sets d to a.
+func (b *Builder) Move(d, a Reg) { b.put(api.Word{Kind: api.WordMove, D: int(d), A: int(a)}) }
+
+// Advance sets d to d + a.
+func (b *Builder) Advance(d, a Reg) {
+	b.put(api.Word{Kind: api.WordAdd, D: int(d), A: int(d), B: int(a)})
+}
+
+func (b *Builder) op(kind int, a, c Reg) Reg {
+	return b.set(api.Word{Kind: kind, A: int(a), B: int(c)})
+}
+
+// Add is a + c.
+func (b *Builder) Add(a, c Reg) Reg { return b.op(api.WordAdd, a, c) }
+
+// Sub is a - c.
+func (b *Builder) Sub(a, c Reg) Reg { return b.op(api.WordSub, a, c) }
+
+// And is a and c, bit by bit.
+func (b *Builder) And(a, c Reg) Reg { return b.op(api.WordAnd, a, c) }
+
+// Shl is a, moved to the left by c.
+func (b *Builder) Shl(a, c Reg) Reg { return b.op(api.WordShl, a, c) }
+
+// Shr is a, moved to the right by c.
+func (b *Builder) Shr(a, c Reg) Reg { return b.op(api.WordShr, a, c) }
+
+// Load is the word at a place behind an address.
+func (b *Builder) Load(at Reg, place int) Reg {
+	return b.set(api.Word{Kind: api.WordLoad, A: int(at), Imm: int64(place), Size: wordBytes})
+}
+
+// Store sets the word at a place behind an address.
+func (b *Builder) Store(at Reg, place int, x Reg) {
+	b.put(api.Word{Kind: api.WordStore, A: int(at), B: int(x), Imm: int64(place), Size: wordBytes})
+}
+
+// Keep puts a into a slot of its own, where it outlives calls.
+func (b *Builder) Keep(a Reg) int {
+	b.put(api.Word{Kind: api.WordPut, A: int(a), Imm: int64(b.slots)})
+	b.slots++
+	return b.slots - 1
+}
+
+// Kept is what a slot holds.
+func (b *Builder) Kept(slot int) Reg { return b.set(api.Word{Kind: api.WordGet, Imm: int64(slot)}) }

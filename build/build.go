@@ -16,6 +16,7 @@ type Builder struct {
 	regs   int
 	slots  int
 	labels int
+	made   int // how many instructions there were when the last register was set for the first time
 }
 
 // Function is the function that is written.
@@ -32,6 +33,7 @@ func (b *Builder) set(w api.Word) Reg {
 	w.D = b.regs
 	b.regs++
 	b.put(w)
+	b.made = len(b.code)
 	return Reg(w.D)
 }
 
@@ -53,9 +55,23 @@ func (b *Builder) Copy(a Reg) Reg { return b.set(api.Word{Kind: api.WordMove, A:
 // Move sets d to a.
 func (b *Builder) Move(d, a Reg) { b.put(api.Word{Kind: api.WordMove, D: int(d), A: int(a)}) }
 
+// Into sets d to a, which nothing else reads: if the last instruction has made it, that one sets d itself.
+func (b *Builder) Into(d, a Reg) {
+	if b.made > 0 && b.made == len(b.code) && int(a) == b.regs-1 {
+		b.code[b.made-1].D = int(d)
+		return
+	}
+	b.Move(d, a)
+}
+
 // Advance sets d to d + a.
 func (b *Builder) Advance(d, a Reg) {
 	b.put(api.Word{Kind: api.WordAdd, D: int(d), A: int(d), B: int(a)})
+}
+
+// Reduce sets d to d - a.
+func (b *Builder) Reduce(d, a Reg) {
+	b.put(api.Word{Kind: api.WordSub, D: int(d), A: int(d), B: int(a)})
 }
 
 func (b *Builder) op(kind int, a, c Reg) Reg {
@@ -68,14 +84,45 @@ func (b *Builder) Add(a, c Reg) Reg { return b.op(api.WordAdd, a, c) }
 // Sub is a - c.
 func (b *Builder) Sub(a, c Reg) Reg { return b.op(api.WordSub, a, c) }
 
+// Mul is the lowest word of a c.
+func (b *Builder) Mul(a, c Reg) Reg { return b.op(api.WordMul, a, c) }
+
+// High is the highest word of a c.
+func (b *Builder) High(a, c Reg) Reg { return b.op(api.WordHigh, a, c) }
+
+// Div is how often c, which is not 0, is in a.
+func (b *Builder) Div(a, c Reg) Reg { return b.op(api.WordDiv, a, c) }
+
+// Rem is what is left of a then.
+func (b *Builder) Rem(a, c Reg) Reg { return b.op(api.WordRem, a, c) }
+
 // And is a and c, bit by bit.
 func (b *Builder) And(a, c Reg) Reg { return b.op(api.WordAnd, a, c) }
+
+// Or is a or c, bit by bit.
+func (b *Builder) Or(a, c Reg) Reg { return b.op(api.WordOr, a, c) }
+
+// Xor has the bits of a that c has not, and those of c that a has not.
+func (b *Builder) Xor(a, c Reg) Reg { return b.op(api.WordXor, a, c) }
 
 // Shl is a, moved to the left by c.
 func (b *Builder) Shl(a, c Reg) Reg { return b.op(api.WordShl, a, c) }
 
 // Shr is a, moved to the right by c.
 func (b *Builder) Shr(a, c Reg) Reg { return b.op(api.WordShr, a, c) }
+
+// Sar is a, moved to the right by c, as a number that may be below 0.
+func (b *Builder) Sar(a, c Reg) Reg { return b.op(api.WordSar, a, c) }
+
+// Truth is 1, if a cond c, else 0.
+func (b *Builder) Truth(a Reg, cond int, c Reg) Reg {
+	return b.set(api.Word{Kind: api.WordSet, A: int(a), B: int(c), Cond: cond})
+}
+
+// RealOf is the bits of the real that is nearest to the number a.
+func (b *Builder) RealOf(a Reg) Reg {
+	return b.set(api.Word{Kind: api.WordReal, A: int(a), B: int(a), Real: api.RealInt})
+}
 
 // Load is the word at a place behind an address.
 func (b *Builder) Load(at Reg, place int) Reg {
@@ -85,6 +132,11 @@ func (b *Builder) Load(at Reg, place int) Reg {
 // Store sets the word at a place behind an address.
 func (b *Builder) Store(at Reg, place int, x Reg) {
 	b.put(api.Word{Kind: api.WordStore, A: int(at), B: int(x), Imm: int64(place), Size: wordBytes})
+}
+
+// StoreByte sets the byte at an address to the lowest one of x.
+func (b *Builder) StoreByte(at, x Reg) {
+	b.put(api.Word{Kind: api.WordStore, A: int(at), B: int(x), Size: 1})
 }
 
 // Keep puts a into a slot of its own, where it outlives calls.

@@ -2,6 +2,7 @@ package build
 
 import (
 	"math"
+	"math/bits"
 	"reflect"
 	"testing"
 
@@ -32,6 +33,7 @@ func program(params int, write func(b *Builder)) api.WordProgram {
 // Each way to make a value.
 func TestValues(t *testing.T) {
 	a, c := uint64(0xf0f0f0f0f0f0f0f1), uint64(0x0ff000000000000c)
+	high, _ := bits.Mul64(a, c)
 	for i, r := range []struct {
 		write func(b *Builder) Reg
 		want  uint64
@@ -53,6 +55,20 @@ func TestValues(t *testing.T) {
 		{func(b *Builder) Reg { x := b.Copy(b.Param(0)); b.Move(b.Param(0), b.Param(1)); return x }, a},
 		{func(b *Builder) Reg { b.Move(b.Param(0), b.Param(1)); return b.Param(0) }, c},
 		{func(b *Builder) Reg { b.Advance(b.Param(0), b.Param(1)); return b.Param(0) }, a + c},
+		{func(b *Builder) Reg { b.Reduce(b.Param(0), b.Param(1)); return b.Param(0) }, a - c},
+		{func(b *Builder) Reg { return b.Mul(b.Param(0), b.Param(1)) }, a * c},
+		{func(b *Builder) Reg { return b.High(b.Param(0), b.Param(1)) }, high},
+		{func(b *Builder) Reg { return b.Div(b.Param(0), b.Param(1)) }, a / c},
+		{func(b *Builder) Reg { return b.Rem(b.Param(0), b.Param(1)) }, a % c},
+		{func(b *Builder) Reg { return b.Or(b.Param(0), b.Param(1)) }, a | c},
+		{func(b *Builder) Reg { return b.Xor(b.Param(0), b.Param(1)) }, a ^ c},
+		{func(b *Builder) Reg { return b.Sar(b.Param(0), b.Param(1)) }, uint64(int64(a) >> 12)},
+		{func(b *Builder) Reg { return b.RealOf(b.Param(0)) }, math.Float64bits(float64(int64(a)))},
+		{func(b *Builder) Reg {
+			b.Store(b.Data(16), 0, b.Param(1))
+			b.StoreByte(b.Data(17), b.Param(0))
+			return b.Load(b.Data(16), 0)
+		}, c | 0xf1<<8},
 	} {
 		p := program(2, func(b *Builder) { b.Ret(r.write(b)) })
 		if x := run(t, p, "f", a, c); x != r.want {
@@ -95,6 +111,12 @@ func TestConditions(t *testing.T) {
 			})
 			b.Ret(x)
 		})
+		either := program(2, func(b *Builder) {
+			x := b.Const(0)
+			b.Either(b.Param(0), cond, b.Param(1), func() { b.Advance(x, b.Const(4)) }, func() { b.Advance(x, b.Const(5)) })
+			b.Ret(x)
+		})
+		truth := program(2, func(b *Builder) { b.Ret(b.Truth(b.Param(0), cond, b.Param(1))) })
 		while := program(2, func(b *Builder) { // what is asked never changes: it is left from within
 			x := b.Const(0)
 			b.While(b.Param(0), cond, b.Param(1), func() {
@@ -111,6 +133,9 @@ func TestConditions(t *testing.T) {
 				}
 				if x, y, z := run(t, when, "f", a, c), run(t, twice, "f", a, c), run(t, while, "f", a, c); x != want || y != 2*want || z != 3*want {
 					t.Errorf("%#x %d %#x: %d, %d, %d", a, cond, c, x, y, z)
+				}
+				if x, y := run(t, either, "f", a, c), run(t, truth, "f", a, c); x != 5-want || y != want {
+					t.Errorf("%#x %d %#x: %d, %d", a, cond, c, x, y)
 				}
 			}
 		}
@@ -134,6 +159,69 @@ func TestLoops(t *testing.T) {
 	for _, r := range [][3]uint64{{0, 5, 0}, {5, 0, 0}, {1, 1, 0}, {2, 1, 1}, {10, 7, 315}} {
 		if x := run(t, p, "f", r[0], r[1]); x != r[2] {
 			t.Error(r, x)
+		}
+	}
+}
+
+// A loop is left where it is told, from within another one, too.
+func TestLeave(t *testing.T) {
+	p := program(1, func(b *Builder) { // the least k from 1 on for which n is not above 1 + 2 + .. k
+		n, k, one := b.Param(0), b.Const(1), b.Const(1)
+		b.Loop(func(leave func()) {
+			left := b.Copy(n)
+			i := b.Copy(k)
+			b.Loop(func(inner func()) {
+				b.When(left, api.CondLeu, i, leave)
+				b.Reduce(left, i)
+				b.Reduce(i, one)
+				b.When(i, api.CondEq, b.Const(0), inner)
+			})
+			b.Advance(k, one)
+		})
+		b.Ret(k)
+	})
+	for n, want := range []uint64{1, 1, 2, 2, 3, 3, 3, 4} {
+		if x := run(t, p, "f", uint64(n)); x != want {
+			t.Errorf("%d: %d, wanted %d", n, x, want)
+		}
+	}
+}
+
+// Into sets a register by the instruction that has made a value, if that is the last one, and by another one else.
+func TestInto(t *testing.T) {
+	of := func(write func(b *Builder)) []int {
+		f := Function("f", 2, write)
+		var kinds []int
+		for _, w := range f.Code {
+			kinds = append(kinds, w.Kind)
+		}
+		return kinds
+	}
+	for i, r := range []struct {
+		write func(b *Builder)
+		kinds []int
+		want  uint64
+	}{
+		{func(b *Builder) { b.Into(b.Param(0), b.Sub(b.Param(1), b.Param(0))); b.Ret(b.Param(0)) }, []int{api.WordSub, api.WordRet}, 30},
+		{func(b *Builder) { b.Into(b.Param(0), b.Param(1)); b.Ret(b.Param(0)) }, []int{api.WordMove, api.WordRet}, 40},
+		{func(b *Builder) {
+			x := b.Sub(b.Param(1), b.Param(0))
+			b.Advance(x, x)
+			b.Into(b.Param(1), x)
+			b.Ret(b.Param(1))
+		}, []int{api.WordSub, api.WordAdd, api.WordMove, api.WordRet}, 60},
+		{func(b *Builder) {
+			x := b.Sub(b.Param(1), b.Param(0))
+			y := b.Const(7)
+			b.Into(b.Param(0), x)
+			b.Ret(b.Add(b.Param(0), y))
+		}, []int{api.WordSub, api.WordConst, api.WordMove, api.WordAdd, api.WordRet}, 37},
+	} {
+		if kinds := of(r.write); !reflect.DeepEqual(kinds, r.kinds) {
+			t.Errorf("%d: kinds %d, wanted %d", i, kinds, r.kinds)
+		}
+		if x := run(t, program(2, r.write), "f", 10, 40); x != r.want {
+			t.Errorf("%d: %d, wanted %d", i, x, r.want)
 		}
 	}
 }

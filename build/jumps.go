@@ -13,10 +13,21 @@ func (b *Builder) branch(a Reg, cond int, c Reg, l int) {
 	b.put(api.Word{Kind: api.WordBranch, A: int(a), B: int(c), Cond: cond, L: l})
 }
 
+func (b *Builder) jump(l int) { b.put(api.Word{Kind: api.WordJump, L: l}) }
+
+// Loop does something again and again, till it comes to what leave has written.
+func (b *Builder) Loop(do func(leave func())) {
+	again, over := b.newLabel(), b.newLabel()
+	b.label(again)
+	do(func() { b.jump(over) })
+	b.jump(again)
+	b.label(over)
+}
+
 // While does something again and again, as long as a cond c. The question stands behind it, so that going round is one step.
 func (b *Builder) While(a Reg, cond int, c Reg, do func()) {
 	again, ask := b.newLabel(), b.newLabel()
-	b.put(api.Word{Kind: api.WordJump, L: ask})
+	b.jump(ask)
 	b.label(again)
 	do()
 	b.label(ask)
@@ -28,6 +39,17 @@ func (b *Builder) When(a Reg, cond int, c Reg, do func()) {
 	over := b.newLabel()
 	a, cond, c = opposite(a, cond, c)
 	b.branch(a, cond, c, over)
+	do()
+	b.label(over)
+}
+
+// Either does something, if a cond c, and something other else.
+func (b *Builder) Either(a Reg, cond int, c Reg, do, other func()) {
+	here, over := b.newLabel(), b.newLabel()
+	b.branch(a, cond, c, here)
+	other()
+	b.jump(over)
+	b.label(here)
 	do()
 	b.label(over)
 }

@@ -249,8 +249,11 @@ func (b *bench) thing(at uint64) (api.Thing, []uint64) {
 }
 
 // hand pushes four words: the arguments, and any values behind them. Where they begin, and where the top was. Each other time the
-// arguments are held by other words, too.
+// arguments are held by other words, too. The words that anybody may use hold anything.
 func (b *bench) hand(args []value) (p, top uint64) {
+	for i := range uint64(12) {
+		b.store(cellsBase+160+8*i, (12*uint64(b.calls)+i+1)*0x9e3779b97f4a7c15)
+	}
 	top = b.load(topAt)
 	p = top
 	for i, v := range args {

@@ -33,6 +33,21 @@ func both(t *testing.T, do func(b *bench)) {
 	}
 }
 
+// The chapter's examples.
+func TestExamples(t *testing.T) {
+	both(t, func(b *bench) {
+		great := thing(api.HeapBig, 0, "\x00\x00\x00\x00\x00\x00\x00\x40")
+		b.is(great, none, "int.add", number(1<<62-1), number(1))
+		b.is(number(1<<62-1), none, "int.sub", great, number(1))
+		b.is(number(-4), none, "int.div", number(-7), number(2))
+		b.is(number(1), none, "int.mod", number(-7), number(2))
+		b.is(value{}, api.ExnDiv, "int.div", number(1), number(0))
+		b.is(textOf("~18446744073709551616"), none, "int.text", integer(big.Neg(power2(64))))
+		b.is(realOf(math.Float64bits(1<<53)), none, "int.real", number(1<<53+1))
+		b.is(number(-1), none, "real.floor", realOf(math.Float64bits(-0.5)))
+	})
+}
+
 // P16.2: all functions, at all edges, and with the same thing twice; with things outside the heap.
 func TestEdges(t *testing.T) {
 	both(t, func(b *bench) {

@@ -192,6 +192,10 @@ func TestDivisors(t *testing.T) {
 		}
 		high := [5]uint64{r.Uint64(), near(d - 4), near(0), d >> r.IntN(64), near(d / 2)}[r.IntN(5)] % d
 		low := [4]uint64{r.Uint64(), near(0), near(1 << 63), near(d)}[r.IntN(4)]
+		if r.IntN(4) == 0 { // nothing is left, or little
+			high, low = bits.Mul64([3]uint64{r.Uint64(), near(math.MaxUint64 - 4), near(d / 2)}[r.IntN(3)], d)
+			low += r.Uint64N(2)
+		}
 		q, rest := bits.Div64(high, low, d)
 		if x, y := ask("quotient", high, low, d), ask("rest", high, low, d); x != q || y != rest {
 			t.Fatalf("%#x %#x by %#x: %#x, rest %#x, wanted %#x, %#x", high, low, d, x, y, q, rest)

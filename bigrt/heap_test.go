@@ -73,6 +73,30 @@ func TestLeastHeap(t *testing.T) {
 	}
 }
 
+// With the least heap there is room for the greatest integers that programs make, whatever is done with two of them.
+func TestGreatestInLeast(t *testing.T) {
+	t.Parallel()
+	r := rand.New(rand.NewPCG(10, 24))
+	b := newBench(t, least, true)
+	for _, l := range [][2]int{{1024, 1024}, {1024, 1023}, {1024, 512}, {1024, 2}, {1024, 1}, {512, 512}, {513, 512}, {1, 1024}} {
+		for range 3 {
+			x, y := integer(random(r, l[0])), integer(random(r, l[1]))
+			b.two(x, y)
+			b.one(x)
+			b.one(y)
+		}
+	}
+	x := integer(random(r, 4096)) // and for one that nobody makes
+	for _, name := range twos() {
+		want, raises := ofTwo(name, x.int(), big.Of(-7))
+		b.is(want, raises, name, x, number(-7))
+	}
+	for _, name := range []string{"int.neg", "int.real"} {
+		want, raises := ofOne(name, x.int())
+		b.is(want, raises, name, x)
+	}
+}
+
 // said is all that was written to the error output.
 func (b *bench) said() string {
 	out := ""

@@ -33,8 +33,10 @@ func quotient(w *writer) {
 	p, rest := w.Kept(keptP), w.Kept(keptRest)
 	w.When(order, api.CondLt, w.zero, func() { w.tail(underFunction, p, rest) })
 	x, y := w.magnitudes(p)
-	w.When(rest, api.CondEq, w.zero, func() {
+	w.Either(rest, api.CondEq, w.zero, func() {
 		w.When(w.Const(mostBytes), api.CondLtu, w.Sub(x.size, y.size), func() { w.raise(api.ExnSize) })
+	}, func() {
+		w.When(y.size, api.CondEq, w.eight, func() { w.tail(restFunction, p) })
 	})
 	at := w.call(spareFunction, p, w.Add(x.size, w.Const(2*wordBytes)))
 	p, rest = w.Kept(keptP), w.Kept(keptRest)
@@ -61,14 +63,35 @@ func under(w *writer) {
 func short(w *writer) {
 	p := w.Param(0)
 	x, y := w.magnitudes(p)
-	start, by := w.spared(p), w.newDivisor(w.Load(y.at, 0), w.zero)
-	rest, at := w.Const(0), w.end(magnitude{start, x.size})
-	w.down(at, start, func(word build.Reg) { // the rest is moved to the left as the divisor is
-		w.Into(rest, w.Or(rest, w.brought(word, by.topmost)))
-		w.Store(at, wordBytes, w.divided(rest, w.Shl(word, by.shift), by))
-	})
-	w.Store(start, 0, w.Shr(rest, by.shift))
+	start := w.spared(p)
+	rest := w.shortly(magnitude{start, x.size}, y, func(at, q build.Reg) { w.Store(at, wordBytes, q) })
+	w.Store(start, 0, rest)
 	w.tail(downFunction, p, w.Param(1))
+}
+
+// onlyRest writes a function that answers the rest then, for which no quotient must lie anywhere.
+func onlyRest(w *writer) {
+	p := w.Param(0)
+	x, y := w.magnitudes(p)
+	rest := w.shortly(x, y, func(_, _ build.Reg) {})
+	sign := w.sign(w.Load(p, secondAt))
+	unlike := w.Xor(w.sign(w.Load(p, firstAt)), sign)
+	w.When(w.And(unlike, w.Truth(rest, api.CondNe, w.zero)), api.CondNe, w.zero, func() {
+		w.Into(rest, w.Sub(w.Load(y.at, 0), rest))
+	})
+	w.tail(wordFunction, rest, sign)
+}
+
+// shortly tells the words of the quotient of x and a y of one word, the highest first, with the address of x's word; it answers what is
+// left. While it goes on that is moved to the left as the divisor is.
+func (w *writer) shortly(x, y magnitude, each func(at, q build.Reg)) build.Reg {
+	by := w.newDivisor(w.Load(y.at, 0), w.zero)
+	rest, at := w.Const(0), w.end(x)
+	w.down(at, x.at, func(word build.Reg) {
+		w.Into(rest, w.Or(rest, w.brought(word, by.topmost)))
+		each(at, w.divided(rest, w.Shl(word, by.shift), by))
+	})
+	return w.Shr(rest, by.shift)
 }
 
 // long writes what divides them by one of several words, as one does by hand: each word of the quotient is guessed by the highest words,

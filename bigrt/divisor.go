@@ -12,20 +12,20 @@ type topmost struct{ word, shift, back build.Reg }
 // topmost is that of a number by its highest word, which is not 0, and the word below.
 func (w *writer) topmost(top, below build.Reg) topmost {
 	t := topmost{word: w.Copy(top), shift: w.Const(0)}
-	for step := int64(wordBits / 2); step > 0; step /= 2 {
-		w.When(w.Shr(t.word, w.Const(wordBits-step)), api.CondEq, w.zero, func() {
+	for step := int64(build.WordBits / 2); step > 0; step /= 2 {
+		w.When(w.Shr(t.word, w.Const(build.WordBits-step)), api.CondEq, w.Zero, func() {
 			n := w.Const(step)
 			w.Into(t.word, w.Shl(t.word, n))
 			w.Advance(t.shift, n)
 		})
 	}
-	t.back = w.Sub(w.Const(wordBits-1), t.shift)
+	t.back = w.Sub(w.Const(build.WordBits-1), t.shift)
 	w.Into(t.word, w.Or(t.word, w.brought(below, t)))
 	return t
 }
 
 // brought are the bits that leave a word when it is moved to the left as that one was. It takes two moves, since none is by 64 bits.
-func (w *writer) brought(x build.Reg, t topmost) build.Reg { return w.Shr(w.Shr(x, w.one), t.back) }
+func (w *writer) brought(x build.Reg, t topmost) build.Reg { return w.Shr(w.Shr(x, w.One), t.back) }
 
 // divisor is what two words are divided by, with its inverse: (2^128 - 1) / word, less 2^64. By it quotients are guessed without a
 // division.
@@ -42,7 +42,7 @@ func (w *writer) newDivisor(top, below build.Reg) divisor {
 // inverse is that of a divisor: 2^64 - 1 - word and a word of ones behind it, divided by it, half a word of the quotient at a time.
 // Each half is guessed by the divisor's higher half, and is at most 2 too great.
 func (w *writer) inverse(word build.Reg) build.Reg {
-	half, ones := w.Const(wordBits/2), w.Const(1<<(wordBits/2)-1)
+	half, ones := w.Const(build.WordBits/2), w.Const(1<<(build.WordBits/2)-1)
 	high, low := w.Shr(word, half), w.And(word, ones)
 	rest, out := w.Xor(word, w.Const(allOnes)), w.Const(0)
 	for range 2 {
@@ -50,7 +50,7 @@ func (w *writer) inverse(word build.Reg) build.Reg {
 		for range 2 {
 			w.When(left, api.CondLeu, ones, func() {
 				w.When(w.Or(w.Shl(left, half), ones), api.CondLtu, w.Mul(q, low), func() {
-					w.Reduce(q, w.one)
+					w.Reduce(q, w.One)
 					w.Advance(left, high)
 				})
 			})
@@ -69,14 +69,14 @@ func (w *writer) divided(rest, x build.Reg, by divisor) build.Reg {
 	w.Advance(low, x)
 	w.Advance(q, rest)
 	w.Advance(q, w.Truth(low, api.CondLtu, x))
-	w.Advance(q, w.one)
+	w.Advance(q, w.One)
 	w.Into(rest, w.Sub(x, w.Mul(q, by.word)))
 	w.When(low, api.CondLtu, rest, func() {
-		w.Reduce(q, w.one)
+		w.Reduce(q, w.One)
 		w.Advance(rest, by.word)
 	})
 	w.When(by.word, api.CondLeu, rest, func() {
-		w.Advance(q, w.one)
+		w.Advance(q, w.One)
 		w.Reduce(rest, by.word)
 	})
 	return q

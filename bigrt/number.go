@@ -19,20 +19,15 @@ func (w *writer) end(x magnitude) build.Reg { return w.Add(x.at, x.size) }
 // magnitude is a value's. It has no word that is 0 at its end; so 0 has none at all.
 func (w *writer) magnitude(value build.Reg, cell int) magnitude {
 	at, size := w.Data(cell), w.Const(0)
-	w.Either(w.And(value, w.one), api.CondEq, w.zero, func() {
-		w.Into(at, w.Add(value, w.eight))
-		w.Into(size, w.whole(w.Shr(w.Load(value, 0), w.Const(lengthAt))))
+	w.Either(w.And(value, w.One), api.CondEq, w.Zero, func() {
+		w.Into(at, w.Add(value, w.Eight))
+		w.Into(size, w.Whole(w.Length(value)))
 	}, func() {
-		x := w.abs(w.Sar(value, w.one))
+		x := w.abs(w.Sar(value, w.One))
 		w.Store(at, 0, x)
-		w.Into(size, w.Mul(w.Truth(x, api.CondNe, w.zero), w.eight))
+		w.Into(size, w.Mul(w.Truth(x, api.CondNe, w.Zero), w.Eight))
 	})
 	return magnitude{at, size}
-}
-
-// whole is how many bytes the words have that so many bytes lie in.
-func (w *writer) whole(n build.Reg) build.Reg {
-	return w.And(w.Add(n, w.Const(wordBytes-1)), w.Const(wholeWords))
 }
 
 // magnitudes are those of the two arguments.
@@ -40,41 +35,26 @@ func (w *writer) magnitudes(p build.Reg) (x, y magnitude) {
 	return w.magnitude(w.Load(p, firstAt), firstCell), w.magnitude(w.Load(p, secondAt), secondCell)
 }
 
-// sign is 1, if a value is below 0, else 0.
-func (w *writer) sign(value build.Reg) build.Reg {
-	out := w.Shr(value, w.Const(wordBits-1))
-	w.When(w.And(value, w.one), api.CondEq, w.zero, func() {
-		w.Into(out, w.And(w.Shr(w.Load(value, 0), w.Const(tagAt)), w.one))
-	})
-	return out
-}
-
 // bothSmall does something, if both values are small numbers.
 func (w *writer) bothSmall(a, b build.Reg, do func()) {
-	w.When(w.And(w.And(a, b), w.one), api.CondNe, w.zero, do)
+	w.When(w.And(w.And(a, b), w.One), api.CondNe, w.Zero, do)
 }
 
 // abs is the magnitude of a number.
 func (w *writer) abs(n build.Reg) build.Reg {
-	mask := w.Sar(n, w.Const(wordBits-1))
-	return w.turned(n, mask)
+	mask := w.Sar(n, w.Const(build.WordBits-1))
+	return w.Turned(n, mask)
 }
-
-// turned is the opposite of n, if mask is -1; else n, the mask being 0.
-func (w *writer) turned(n, mask build.Reg) build.Reg { return w.Sub(w.Xor(n, mask), mask) }
-
-// small is the word of a small number.
-func (w *writer) small(n build.Reg) build.Reg { return w.Add(w.Add(n, n), w.one) }
 
 // single writes a function that answers the integer whose magnitude x is one word; its sign is 1, if it is below 0.
 func single(w *writer) {
 	x, sign := w.Param(0), w.Param(1)
 	w.When(x, api.CondLtu, w.Add(w.Const(smallEnd), sign), func() { // there is one more below 0
-		w.Ret(w.small(w.turned(x, w.Sub(w.zero, sign))))
+		w.Ret(w.Small(w.Turned(x, w.Sub(w.Zero, sign))))
 	})
 	kept := w.Keep(x)
-	at := w.call(roomFunction, w.eight, x, sign)
-	w.Store(at, wordBytes, w.Kept(kept))
+	at := w.call(roomFunction, w.Eight, x, sign)
+	w.Store(at, build.WordBytes, w.Kept(kept))
 	w.Ret(at)
 }
 
@@ -83,11 +63,11 @@ func single(w *writer) {
 func room(w *writer) {
 	size, last, sign := w.Param(0), w.Param(1), w.Param(2)
 	bytes := w.Copy(size)
-	w.When(w.Shr(last, w.Const(limbBits)), api.CondEq, w.zero, func() { w.Reduce(bytes, w.Const(limbBytes)) })
-	w.When(w.Const(mostBytes), api.CondLtu, bytes, func() { w.raise(api.ExnSize) })
-	head := w.Add(w.Shl(bytes, w.Const(lengthAt)), w.Shl(sign, w.Const(tagAt)))
-	kept := w.Keep(w.Add(head, w.Const(header(api.HeapBig, 0))))
-	at := w.alloc(w.Add(size, w.eight))
+	w.When(w.Shr(last, w.Const(limbBits)), api.CondEq, w.Zero, func() { w.Reduce(bytes, w.Const(limbBytes)) })
+	w.When(w.Const(mostBytes), api.CondLtu, bytes, func() { w.Raise(api.ExnSize) })
+	head := w.Add(w.Shl(bytes, w.Const(build.LengthAt)), w.Shl(sign, w.Const(build.TagAt)))
+	kept := w.Keep(w.Add(head, w.Const(build.Header(api.HeapBig, 0))))
+	at := w.Alloc(w.Add(size, w.Eight))
 	w.Store(at, 0, w.Kept(kept))
 	w.Ret(at)
 }
@@ -95,17 +75,17 @@ func room(w *writer) {
 // spare writes a function that has the third held word hold so many bytes, of which 8 is a divisor; it answers where they begin.
 func spare(w *writer) {
 	p, size := w.Keep(w.Param(0)), w.Keep(w.Param(1))
-	at := w.alloc(w.Add(w.Param(1), w.eight))
-	w.Store(at, 0, w.Add(w.Shl(w.Kept(size), w.Const(lengthAt)), w.Const(header(api.HeapBytes, 0))))
+	at := w.Alloc(w.Add(w.Param(1), w.Eight))
+	w.Store(at, 0, w.Add(w.Shl(w.Kept(size), w.Const(build.LengthAt)), w.Const(build.Header(api.HeapBytes, 0))))
 	w.Store(w.Kept(p), spareAt, at)
-	w.Ret(w.Add(at, w.eight))
+	w.Ret(w.Add(at, w.Eight))
 }
 
 // spared is where these bytes begin, spareEnd where they end.
-func (w *writer) spared(p build.Reg) build.Reg { return w.Add(w.Load(p, spareAt), w.eight) }
+func (w *writer) spared(p build.Reg) build.Reg { return w.Add(w.Load(p, spareAt), w.Eight) }
 
 func (w *writer) spareEnd(p build.Reg) build.Reg {
-	return w.Add(w.spared(p), w.Shr(w.Load(w.Load(p, spareAt), 0), w.Const(lengthAt)))
+	return w.Add(w.spared(p), w.Length(w.Load(p, spareAt)))
 }
 
 // take writes a function that answers the integer of a sign whose magnitude are words of these bytes: where they begin there, and how
@@ -114,20 +94,20 @@ func take(w *writer) {
 	p, from, size, sign := w.Param(0), w.Param(1), w.Param(2), w.Param(3)
 	at, last := w.Add(w.spared(p), from), w.Const(0)
 	w.Loop(func(leave func()) {
-		w.When(size, api.CondEq, w.zero, leave)
-		w.Into(last, w.Load(w.Add(at, size), -wordBytes))
-		w.When(last, api.CondNe, w.zero, leave)
-		w.Reduce(size, w.eight)
+		w.When(size, api.CondEq, w.Zero, leave)
+		w.Into(last, w.Load(w.Add(at, size), -build.WordBytes))
+		w.When(last, api.CondNe, w.Zero, leave)
+		w.Reduce(size, w.Eight)
 	})
-	w.When(size, api.CondLeu, w.eight, func() { w.tail(wordFunction, last, sign) })
-	none := w.Const(small0)
+	w.When(size, api.CondLeu, w.Eight, func() { w.tail(wordFunction, last, sign) })
+	none := w.Const(build.Small0)
 	w.Store(p, firstAt, none)
 	w.Store(p, secondAt, none)
 	keptP, keptFrom, keptSize := w.Keep(p), w.Keep(from), w.Keep(size)
 	out := w.call(roomFunction, size, last, sign)
-	w.When(out, api.CondNe, w.zero, func() {
+	w.When(out, api.CondNe, w.Zero, func() {
 		words := magnitude{w.Add(w.spared(w.Kept(keptP)), w.Kept(keptFrom)), w.Kept(keptSize)}
-		w.copied(words, w.Add(out, w.eight))
+		w.copied(words, w.Add(out, w.Eight))
 	})
 	w.Ret(out)
 }

@@ -7,29 +7,29 @@ import (
 
 // mostFactors is how many bytes the words of two factors have together at most, if their product may be answered: with one word more
 // the product has more than MaxLimbs limbs, though the highest words of both be 1.
-const mostFactors = mostBytes + wordBytes
+const mostFactors = mostBytes + build.WordBytes
 
 // times writes int.mul.
 func times(w *writer) {
 	p := w.Param(0)
 	a, b := w.Load(p, firstAt), w.Load(p, secondAt)
 	w.bothSmall(a, b, func() {
-		x, y := w.abs(w.Sar(a, w.one)), w.abs(w.Sar(b, w.one))
-		w.When(w.High(x, y), api.CondEq, w.zero, func() {
-			w.tail(wordFunction, w.Mul(x, y), w.Shr(w.Xor(a, b), w.Const(wordBits-1)))
+		x, y := w.abs(w.Sar(a, w.One)), w.abs(w.Sar(b, w.One))
+		w.When(w.High(x, y), api.CondEq, w.Zero, func() {
+			w.tail(wordFunction, w.Mul(x, y), w.Shr(w.Xor(a, b), w.Const(build.WordBits-1)))
 		})
 	})
 	x, y := w.magnitudes(p)
-	w.When(x.size, api.CondEq, w.zero, func() { w.Ret(w.Const(small0)) })
-	w.When(y.size, api.CondEq, w.zero, func() { w.Ret(w.Const(small0)) })
+	w.When(x.size, api.CondEq, w.Zero, func() { w.Ret(w.Const(build.Small0)) })
+	w.When(y.size, api.CondEq, w.Zero, func() { w.Ret(w.Const(build.Small0)) })
 	size := w.Add(x.size, y.size)
-	w.When(w.Const(mostFactors), api.CondLtu, size, func() { w.raise(api.ExnSize) })
+	w.When(w.Const(mostFactors), api.CondLtu, size, func() { w.Raise(api.ExnSize) })
 	keptP, keptSize := w.Keep(p), w.Keep(size)
 	at := w.call(spareFunction, p, size)
 	p = w.Kept(keptP)
 	w.multiply(p, at)
-	sign := w.Xor(w.sign(w.Load(p, firstAt)), w.sign(w.Load(p, secondAt)))
-	w.tail(takeFunction, p, w.zero, w.Kept(keptSize), sign)
+	sign := w.Xor(w.Sign(w.Load(p, firstAt)), w.Sign(w.Load(p, secondAt)))
+	w.tail(takeFunction, p, w.Zero, w.Kept(keptSize), sign)
 }
 
 // multiply lays the product of the arguments' magnitudes from at on, a register that it sets.
@@ -42,7 +42,7 @@ func (w *writer) multiply(p, at build.Reg) {
 			return sum, w.Truth(sum, api.CondLtu, u)
 		})
 		w.Store(w.Add(at, y.size), 0, carry)
-		w.Advance(at, w.eight)
+		w.Advance(at, w.Eight)
 	})
 }
 
@@ -50,8 +50,8 @@ func (w *writer) multiply(p, at build.Reg) {
 func (w *writer) clear(x magnitude) {
 	at := w.Copy(x.at)
 	w.While(at, api.CondLtu, w.end(x), func() {
-		w.Store(at, 0, w.zero)
-		w.Advance(at, w.eight)
+		w.Store(at, 0, w.Zero)
+		w.Advance(at, w.Eight)
 	})
 }
 
@@ -66,7 +66,7 @@ func (w *writer) products(factor build.Reg, y magnitude, at build.Reg, with func
 		out, over := with(w.Load(to, 0), low)
 		w.Store(to, 0, out)
 		w.Into(carry, w.Add(high, over))
-		w.Advance(to, w.eight)
+		w.Advance(to, w.Eight)
 	})
 	return carry
 }

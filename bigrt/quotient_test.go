@@ -147,11 +147,7 @@ func TestGuesses(t *testing.T) {
 func dividing(t *testing.T) *word.Process {
 	t.Helper()
 	write := func(name string, params int, do func(w *writer)) api.WordFunction {
-		return build.Function(name, params, func(b *build.Builder) {
-			w := &writer{Builder: b}
-			w.numbers()
-			do(w)
-		})
+		return build.Function(name, params, func(b *build.Builder) { do(&writer{Values: build.NewValues(b, 0, 0)}) })
 	}
 	divided := func(w *writer) (q, rest build.Reg) {
 		rest = w.Copy(w.Param(0))

@@ -10,9 +10,9 @@ func plus(w *writer, reckon func(a, b build.Reg) build.Reg, turned int64) {
 	p := w.Param(0)
 	a, b := w.Load(p, firstAt), w.Load(p, secondAt)
 	w.bothSmall(a, b, func() {
-		n := reckon(w.Sar(a, w.one), w.Sar(b, w.one))
-		out := w.small(n)
-		w.When(w.Sar(out, w.one), api.CondEq, n, func() { w.Ret(out) })
+		n := reckon(w.Sar(a, w.One), w.Sar(b, w.One))
+		out := w.Small(n)
+		w.When(w.Sar(out, w.One), api.CondEq, n, func() { w.Ret(out) })
 	})
 	w.tail(sumFunction, p, w.Const(turned))
 }
@@ -21,7 +21,7 @@ func plus(w *writer, reckon func(a, b build.Reg) build.Reg, turned int64) {
 func opposite(w *writer) {
 	p := w.Param(0)
 	w.Store(p, secondAt, w.Load(p, firstAt))
-	w.Store(p, firstAt, w.Const(small0))
+	w.Store(p, firstAt, w.Const(build.Small0))
 	w.tail(subFunction, p)
 }
 
@@ -32,9 +32,9 @@ func sum(w *writer) {
 	order := w.call(compareFunction, w.Load(w.Param(0), firstAt), w.Load(w.Param(0), secondAt))
 	p := w.Kept(kept)
 	a, b := w.Load(p, firstAt), w.Load(p, secondAt)
-	sign, other := w.sign(a), w.Xor(w.sign(b), w.Kept(keptTurned))
-	mask := w.Sub(w.zero, w.Xor(sign, other))
-	w.When(order, api.CondLt, w.zero, func() {
+	sign, other := w.Sign(a), w.Xor(w.Sign(b), w.Kept(keptTurned))
+	mask := w.Sub(w.Zero, w.Xor(sign, other))
+	w.When(order, api.CondLt, w.Zero, func() {
 		w.Store(p, firstAt, b)
 		w.Store(p, secondAt, a)
 		w.Move(sign, other)
@@ -49,23 +49,23 @@ func join(w *writer) {
 	x, y := w.magnitudes(p)
 	count, size, last := w.Const(0), w.Const(0), w.Const(0)
 	w.sums(x, y, mask, func(sum build.Reg) {
-		w.Advance(count, w.eight)
-		w.When(sum, api.CondNe, w.zero, func() {
+		w.Advance(count, w.Eight)
+		w.When(sum, api.CondNe, w.Zero, func() {
 			w.Move(size, count)
 			w.Move(last, sum)
 		})
 	})
-	w.When(size, api.CondLeu, w.eight, func() { w.tail(wordFunction, last, sign) })
+	w.When(size, api.CondLeu, w.Eight, func() { w.tail(wordFunction, last, sign) })
 	keptP, keptMask, keptSize := w.Keep(p), w.Keep(mask), w.Keep(size)
 	out := w.call(roomFunction, size, last, sign)
-	w.When(out, api.CondNe, w.zero, func() {
+	w.When(out, api.CondNe, w.Zero, func() {
 		x, y := w.magnitudes(w.Kept(keptP))
-		at := w.Add(out, w.eight)
+		at := w.Add(out, w.Eight)
 		end := w.Add(at, w.Kept(keptSize))
 		w.sums(x, y, w.Kept(keptMask), func(sum build.Reg) {
 			w.When(at, api.CondLtu, end, func() { // words of 0 behind the last one have no room
 				w.Store(at, 0, sum)
-				w.Advance(at, w.eight)
+				w.Advance(at, w.Eight)
 			})
 		})
 	})
@@ -81,7 +81,7 @@ func (w *writer) sums(x, y magnitude, mask build.Reg, each func(sum build.Reg)) 
 
 // added tells the words of x + y but for the carry, which it answers. What is taken away is added as the words' opposites, and 1.
 func (w *writer) added(x, y magnitude, mask build.Reg, each func(sum build.Reg)) build.Reg {
-	carry, from := w.And(mask, w.one), w.Copy(x.at)
+	carry, from := w.And(mask, w.One), w.Copy(x.at)
 	next := func(v build.Reg) {
 		u := w.Load(from, 0)
 		sum := w.Add(u, v)
@@ -89,7 +89,7 @@ func (w *writer) added(x, y magnitude, mask build.Reg, each func(sum build.Reg))
 		w.Into(sum, w.Add(sum, carry))
 		w.Into(carry, w.Add(over, w.Truth(sum, api.CondLtu, carry)))
 		each(sum)
-		w.Advance(from, w.eight)
+		w.Advance(from, w.Eight)
 	}
 	w.up(w.Copy(y.at), w.end(y), func(v build.Reg) { next(w.Xor(v, mask)) })
 	w.While(from, api.CondLtu, w.end(x), func() { next(mask) })

@@ -10,8 +10,8 @@ import (
 const (
 	rowDigits  = 19
 	power      = 10000000000000000000
-	powerWord  = power - 1<<wordBits
-	powerBack  = (1<<(2*wordBits)-1)/power - 1<<wordBits - 1<<wordBits
+	powerWord  = power - 1<<build.WordBits
+	powerBack  = (1<<(2*build.WordBits)-1)/power - 1<<build.WordBits - 1<<build.WordBits
 	rowsAtOnce = 3 // so many divisions are done in one go through the words: what is done for each word beside them counts less
 )
 
@@ -21,26 +21,26 @@ const (
 func text(w *writer) {
 	kept := w.Keep(w.Param(0))
 	size := w.written(w.Param(0)).size
-	more := w.Add(w.And(w.Shr(size, w.Const(6)), w.Const(wholeWords)), w.Const((rowsAtOnce+1)*wordBytes))
+	more := w.Add(w.And(w.Shr(size, w.Const(6)), w.Const(build.WholeWords)), w.Const((rowsAtOnce+1)*build.WordBytes))
 	start := w.call(spareFunction, w.Param(0), w.Add(size, more))
 	p := w.Kept(kept)
 	x := w.written(p)
 	w.copied(x, start)
 	row := w.spareEnd(p)
-	last := w.Sub(row, w.eight)
+	last := w.Sub(row, w.Eight)
 	w.rows(start, w.Add(start, x.size), row)
 	w.Loop(func(leave func()) {
 		w.When(row, api.CondEq, last, leave)
-		w.When(w.Load(row, 0), api.CondNe, w.zero, leave)
-		w.Advance(row, w.eight)
+		w.When(w.Load(row, 0), api.CondNe, w.Zero, leave)
+		w.Advance(row, w.Eight)
 	})
-	w.tail(digitsFunction, p, w.Sub(row, start), w.sign(w.Load(p, firstAt)))
+	w.tail(digitsFunction, p, w.Sub(row, start), w.Sign(w.Load(p, firstAt)))
 }
 
 // written is the first argument's magnitude, of which 0 has a word, too: its text has a digit.
 func (w *writer) written(p build.Reg) magnitude {
 	x := w.magnitude(w.Load(p, firstAt), firstCell)
-	w.When(x.size, api.CondEq, w.zero, func() { w.Move(x.size, w.eight) })
+	w.When(x.size, api.CondEq, w.Zero, func() { w.Move(x.size, w.Eight) })
 	return x
 }
 
@@ -61,13 +61,13 @@ func (w *writer) rows(start, end, row build.Reg) {
 		})
 		w.Loop(func(leave func()) {
 			w.When(end, api.CondEq, start, leave)
-			w.When(w.Load(end, -wordBytes), api.CondNe, w.zero, leave)
-			w.Reduce(end, w.eight)
+			w.When(w.Load(end, -build.WordBytes), api.CondNe, w.Zero, leave)
+			w.Reduce(end, w.Eight)
 		})
 		for _, rest := range rests {
-			w.Reduce(row, w.eight)
+			w.Reduce(row, w.Eight)
 			w.Store(row, 0, rest)
-			w.Move(rest, w.zero)
+			w.Move(rest, w.Zero)
 		}
 	})
 }
@@ -77,16 +77,16 @@ func (w *writer) rows(start, end, row build.Reg) {
 func digits(w *writer) {
 	p, from, sign := w.Param(0), w.Param(1), w.Param(2)
 	length := w.Add(sign, w.length(w.Add(w.spared(p), from), w.spareEnd(p)))
-	w.Store(p, firstAt, w.Const(small0))
+	w.Store(p, firstAt, w.Const(build.Small0))
 	keptP, keptFrom, keptSign, keptLength := w.Keep(p), w.Keep(from), w.Keep(sign), w.Keep(length)
-	out := w.alloc(w.Add(w.whole(length), w.eight))
+	out := w.Alloc(w.Add(w.Whole(length), w.Eight))
 
 	p, length = w.Kept(keptP), w.Kept(keptLength)
-	w.Store(out, 0, w.Add(w.Shl(length, w.Const(lengthAt)), w.Const(header(api.HeapText, 0))))
-	w.Store(w.Add(out, w.whole(length)), 0, w.zero) // the last word, of which not all is text
-	first := w.Add(out, w.eight)
+	w.Store(out, 0, w.Add(w.Shl(length, w.Const(build.LengthAt)), w.Const(build.Header(api.HeapText, 0))))
+	w.Store(w.Add(out, w.Whole(length)), 0, w.Zero) // the last word, of which not all is text
+	first := w.Add(out, w.Eight)
 	w.write(w.Add(first, length), w.Add(w.spared(p), w.Kept(keptFrom)), w.spareEnd(p))
-	w.When(w.Kept(keptSign), api.CondNe, w.zero, func() { w.StoreByte(first, w.Const('~')) })
+	w.When(w.Kept(keptSign), api.CondNe, w.Zero, func() { w.StoreByte(first, w.Const('~')) })
 	w.Ret(out)
 }
 
@@ -94,11 +94,11 @@ func digits(w *writer) {
 func (w *writer) length(row, end build.Reg) build.Reg {
 	ten, out := w.Const(10), w.Const(1)
 	left := w.Div(w.Load(row, 0), ten)
-	w.While(left, api.CondNe, w.zero, func() {
+	w.While(left, api.CondNe, w.Zero, func() {
 		w.Into(left, w.Div(left, ten))
-		w.Advance(out, w.one)
+		w.Advance(out, w.One)
 	})
-	others := w.Shr(w.Sub(w.Sub(end, row), w.eight), w.Const(3))
+	others := w.Shr(w.Sub(w.Sub(end, row), w.Eight), w.Const(3))
 	return w.Add(out, w.Mul(others, w.Const(rowDigits)))
 }
 
@@ -107,15 +107,15 @@ func (w *writer) write(at, row, end build.Reg) {
 	ten, nought, many := w.Const(10), w.Const('0'), w.Const(rowDigits)
 	digit := func(left build.Reg) {
 		q := w.Div(left, ten)
-		w.Reduce(at, w.one)
+		w.Reduce(at, w.One)
 		w.StoreByte(at, w.Add(w.Sub(left, w.Mul(q, ten)), nought))
 		w.Move(left, q)
 	}
-	w.down(end, w.Add(row, w.eight), func(left build.Reg) {
+	w.down(end, w.Add(row, w.Eight), func(left build.Reg) {
 		stop := w.Sub(at, many)
 		w.While(stop, api.CondLtu, at, func() { digit(left) })
 	})
 	left := w.Load(row, 0)
 	digit(left)
-	w.While(left, api.CondNe, w.zero, func() { digit(left) })
+	w.While(left, api.CondNe, w.Zero, func() { digit(left) })
 }

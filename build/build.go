@@ -8,8 +8,6 @@ import (
 // Reg is a register of the function that is being written.
 type Reg int
 
-const wordBytes = 8
-
 // Builder is a function that is being written.
 type Builder struct {
 	code   []api.Word
@@ -119,19 +117,27 @@ func (b *Builder) Truth(a Reg, cond int, c Reg) Reg {
 	return b.set(api.Word{Kind: api.WordSet, A: int(a), B: int(c), Cond: cond})
 }
 
-// RealOf is the bits of the real that is nearest to the number a.
-func (b *Builder) RealOf(a Reg) Reg {
-	return b.set(api.Word{Kind: api.WordReal, A: int(a), B: int(a), Real: api.RealInt})
+// Real is what is done with the reals whose bits a and c are.
+func (b *Builder) Real(how int, a, c Reg) Reg {
+	return b.set(api.Word{Kind: api.WordReal, A: int(a), B: int(c), Real: how})
 }
+
+// RealOf is the bits of the real that is nearest to the number a.
+func (b *Builder) RealOf(a Reg) Reg { return b.Real(api.RealInt, a, a) }
 
 // Load is the word at a place behind an address.
 func (b *Builder) Load(at Reg, place int) Reg {
-	return b.set(api.Word{Kind: api.WordLoad, A: int(at), Imm: int64(place), Size: wordBytes})
+	return b.set(api.Word{Kind: api.WordLoad, A: int(at), Imm: int64(place), Size: WordBytes})
+}
+
+// LoadByte is the byte at an address.
+func (b *Builder) LoadByte(at Reg) Reg {
+	return b.set(api.Word{Kind: api.WordLoad, A: int(at), Size: 1})
 }
 
 // Store sets the word at a place behind an address.
 func (b *Builder) Store(at Reg, place int, x Reg) {
-	b.put(api.Word{Kind: api.WordStore, A: int(at), B: int(x), Imm: int64(place), Size: wordBytes})
+	b.put(api.Word{Kind: api.WordStore, A: int(at), B: int(x), Imm: int64(place), Size: WordBytes})
 }
 
 // StoreByte sets the byte at an address to the lowest one of x.

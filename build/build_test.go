@@ -69,6 +69,7 @@ func TestValues(t *testing.T) {
 			b.StoreByte(b.Data(17), b.Param(0))
 			return b.Load(b.Data(16), 0)
 		}, c | 0xf1<<8},
+		{func(b *Builder) Reg { b.Store(b.Data(8), 0, b.Param(0)); return b.LoadByte(b.Data(15)) }, a >> 56},
 	} {
 		p := program(2, func(b *Builder) { b.Ret(r.write(b)) })
 		if x := run(t, p, "f", a, c); x != r.want {

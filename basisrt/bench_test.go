@@ -54,11 +54,22 @@ func newBench(t *testing.T, size uint64, strict bool) *bench {
 	return benchOf(t, Program(), gcrt.Cells(), size, strict)
 }
 
-// benchOf is a bench of a program whose first collector's function is gc.start, and that has Static at a place of its data.
+// benchOf is a bench of a program that has Static at a place of its data.
 func benchOf(t *testing.T, p api.WordProgram, static int, size uint64, strict bool) *bench {
 	t.Helper()
-	b := &bench{T: t, heap: size, static: static, cells: gcrt.Cells(), raised: api.Ref{Kind: api.RefSmall}}
-	b.begin(p, strict, someWorld())
+	return started(t, p, static, someWorld(), size, strict)
+}
+
+// benchIn is a bench of Program in a world.
+func benchIn(t *testing.T, w api.World, size uint64, strict bool) *bench {
+	t.Helper()
+	return started(t, Program(), gcrt.Cells(), w, size, strict)
+}
+
+func started(t *testing.T, p api.WordProgram, static int, w api.World, size uint64, strict bool) *bench {
+	t.Helper()
+	b := &bench{T: t, heap: size, static: static, cells: gcrt.Cells()}
+	b.begin(p, strict, w)
 	b.run("gc.start")
 	b.places = make([]uint64, len(b.things))
 	b.holdSome()

@@ -74,12 +74,8 @@ func newNoted(t *testing.T, w api.World) (*bench, func() []call) {
 		t.Fatal(e)
 	}
 	p.Data, p.Zero = append(p.Data, make([]byte, p.Zero)...), 0
-	b := &bench{T: t, heap: 1 << 21, static: gcrt.Cells(), cells: gcrt.Cells()}
-	b.begin(p, false, w)
+	b := started(t, p, gcrt.Cells(), w, 1<<21, false)
 	b.data = b.data[:log]
-	b.run("gc.start")
-	b.places = make([]uint64, len(b.things))
-	b.holdSome()
 	many := map[int64]int{0: 3, 1: 3, 2: 2, 3: 1, 60: 1}
 	return b, func() (out []call) {
 		place := cellsBase + uint64(log)

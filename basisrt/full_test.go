@@ -165,12 +165,17 @@ func TestLinesInLeastHeap(t *testing.T) {
 		in.WriteString(noLine(r.IntN([2]int{50, 5000}[r.IntN(2)])) + "\n")
 	}
 	for i := range 2 {
-		b := &bench{T: t, heap: least, static: len(Program().Data) - len(Static()), cells: len(Program().Data) - len(Static())}
-		b.begin(Program(), i == 0, api.World{Stdin: in.String()})
-		b.run("gc.start")
-		b.places = make([]uint64, len(b.things))
-		b.holdSome()
-		b.lines()
+		benchIn(t, api.World{Stdin: in.String()}, least, i == 0).lines()
+	}
+}
+
+// P17.2: of lines and files that are far too long no more is held than of others.
+func TestVastTexts(t *testing.T) {
+	t.Parallel()
+	vast := noLine(1500000)
+	for i := range 2 {
+		b := benchIn(t, api.World{Stdin: vast + "\nnext\n" + vast, Files: []api.File{{Name: "vast", Data: vast}}}, 1<<20, i == 0)
+		b.rows(row{"inputline", v{1}, size}, row{"inputline", v{1}, `"next\n"`}, row{"readfile", v{"vast"}, io}, row{"inputline", v{1}, size}, row{"inputline", v{1}, `""`})
 	}
 }
 

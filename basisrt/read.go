@@ -68,15 +68,12 @@ func file(w *writer) {
 	w.tail(fileFunction, w.Kept(kept), w.Kept(keptFd))
 }
 
-// chunk writes what makes a chunk of the buffer. Of more bytes than a text may have it lets all chunks go, and only counts them.
+// chunk writes what makes a chunk of the buffer. What is behind as many bytes as a text may have is only counted.
 func chunk(w *writer) {
 	p := w.Param(0)
 	count := w.held(p, countHeld)
 	w.hold(p, countHeld, w.Add(count, w.Const(2*bufferBytes)))
-	w.When(w.Const(2*api.MaxString), api.CondLtu, count, func() {
-		w.hold(p, chunksHeld, w.Const(build.Small0))
-		w.Ret(w.One)
-	})
+	w.When(w.Const(2*api.MaxString), api.CondLtu, count, func() { w.Ret(w.One) })
 	kept := w.Keep(p)
 	out := w.bytes(api.HeapBytes, w.Const(bufferBytes))
 	w.copied(w.behind(out), w.static(bufferAt), w.Const(bufferBytes))

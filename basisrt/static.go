@@ -1,8 +1,6 @@
 package basisrt
 
 import (
-	"slices"
-
 	"smithy/api"
 	"smithy/build"
 )
@@ -34,7 +32,7 @@ func Static() []byte {
 	layText(out[uncaughtAt:], uncaught)
 	layText(out[unknownAt:], unknown)
 	layText(out[newlineAt:], newline)
-	return slices.Clip(out)
+	return out
 }
 
 func layHeader(at []byte, kind, length int64) {

@@ -15,12 +15,19 @@ const (
 	rowsAtOnce = 3 // so many divisions are done in one go through the words: what is done for each word beside them counts less
 )
 
+// textWords is how many words a number has at most whose text may be made: with one more it is above 10 ^ MaxString.
+const textWords = api.MaxString*bitsOfRow/(rowDigits*build.WordBits*1000) + 1
+
+// bitsOfRow is how many thousandths of a bit a row tells: 10^19 is 2^63.116.
+const bitsOfRow = 63117
+
 // text writes int.text. Spare bytes are the argument's words, at first; rows come from their other end, the lowest digits' first, while
 // the words become fewer. A row has a word, and takes 63.11 bits from the number: so there must be a 64th more room than for the words,
 // and some for rows of noughts ahead.
 func text(w *writer) {
-	kept := w.Keep(w.Param(0))
 	size := w.written(w.Param(0)).size
+	w.When(w.Const(textWords*build.WordBytes), api.CondLtu, size, func() { w.Raise(api.ExnSize) })
+	kept := w.Keep(w.Param(0))
 	more := w.Add(w.And(w.Shr(size, w.Const(6)), w.Const(build.WholeWords)), w.Const((rowsAtOnce+1)*build.WordBytes))
 	start := w.call(spareFunction, w.Param(0), w.Add(size, more))
 	p := w.Kept(kept)
@@ -77,6 +84,7 @@ func (w *writer) rows(start, end, row build.Reg) {
 func digits(w *writer) {
 	p, from, sign := w.Param(0), w.Param(1), w.Param(2)
 	length := w.Add(sign, w.length(w.Add(w.spared(p), from), w.spareEnd(p)))
+	w.When(w.Const(api.MaxString), api.CondLtu, length, func() { w.Raise(api.ExnSize) })
 	w.Store(p, firstAt, w.Const(build.Small0))
 	keptP, keptFrom, keptSign, keptLength := w.Keep(p), w.Keep(from), w.Keep(sign), w.Keep(length)
 	out := w.Alloc(w.Add(w.Whole(length), w.Eight))

@@ -77,3 +77,17 @@ func TestRoomOfRows(t *testing.T) {
 		b.is(want, raises, "int.text", integer(x))
 	}
 }
+
+// Chapter 10: a text that is too long raises Size, as texts of integers that a program itself has may be.
+func TestTooLongTexts(t *testing.T) {
+	t.Parallel()
+	b := newKept(t, 9, false)
+	end := power10(t, api.MaxString) // the least number whose text is too long
+	tenth := power10(t, api.MaxString-1)
+	for _, x := range []api.Int{near(end, -1), tenth, big.Neg(near(tenth, -1))} {
+		b.is(textOf(big.Text(x)), none, "int.text", integer(x))
+	}
+	for _, x := range []api.Int{end, near(power2(64*3402), -1), power2(64 * 3402), power2(32 * 9000), big.Neg(tenth), big.Neg(power2(32 * 9000))} {
+		b.is(value{}, api.ExnSize, "int.text", integer(x))
+	}
+}

@@ -12,6 +12,7 @@ type Reg int
 type Builder struct {
 	code   []api.Word
 	regs   int
+	most   int // how many registers there were ahead of some being given again
 	slots  int
 	labels int
 	made   int // how many instructions there were when the last register was set for the first time
@@ -21,7 +22,7 @@ type Builder struct {
 func Function(name string, params int, write func(b *Builder)) api.WordFunction {
 	b := &Builder{regs: params}
 	write(b)
-	return api.WordFunction{Name: name, Params: params, Regs: b.regs, Slots: b.slots, Code: b.code}
+	return api.WordFunction{Name: name, Params: params, Regs: max(b.regs, b.most), Slots: b.slots, Code: b.code}
 }
 
 func (b *Builder) put(w api.Word) { b.code = append(b.code, w) }
@@ -35,11 +36,29 @@ func (b *Builder) set(w api.Word) Reg {
 	return Reg(w.D)
 }
 
+// Many is how many instructions were written.
+func (b *Builder) Many() int { return len(b.code) }
+
+// Forget has registers be given again, from one on: nothing reads any more what is in them.
+func (b *Builder) Forget(from Reg) {
+	b.most = max(b.most, b.regs)
+	b.regs, b.made = int(from), 0
+}
+
 // Param is a parameter's register.
 func (b *Builder) Param(i int) Reg { return Reg(i) }
 
 // Const is a number.
 func (b *Builder) Const(x int64) Reg { return b.set(api.Word{Kind: api.WordConst, Imm: x}) }
+
+// Later is a number that has to be told ahead of the function's end.
+func (b *Builder) Later() (r Reg, tell func(x int64)) {
+	at := len(b.code)
+	return b.Const(0), func(x int64) { b.code[at].Imm = x }
+}
+
+// Address is that of the function f.
+func (b *Builder) Address(f int) Reg { return b.set(api.Word{Kind: api.WordFunc, F: f}) }
 
 // Data is the address of a place in the data.
 func (b *Builder) Data(place int) Reg { return b.set(api.Word{Kind: api.WordData, Imm: int64(place)}) }

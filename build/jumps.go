@@ -2,56 +2,63 @@ package build
 
 import "smithy/api"
 
-func (b *Builder) newLabel() int {
+// Label is a place of the function that may be gone to.
+type Label int
+
+// NewLabel is one that has to be placed.
+func (b *Builder) NewLabel() Label {
 	b.labels++
-	return b.labels
+	return Label(b.labels)
 }
 
-func (b *Builder) label(l int) { b.put(api.Word{Kind: api.WordLabel, L: l}) }
+// Place has a label stand here.
+func (b *Builder) Place(l Label) { b.put(api.Word{Kind: api.WordLabel, L: int(l)}) }
 
-func (b *Builder) branch(a Reg, cond int, c Reg, l int) {
-	b.put(api.Word{Kind: api.WordBranch, A: int(a), B: int(c), Cond: cond, L: l})
+// Branch goes on at a label, if a cond c.
+func (b *Builder) Branch(a Reg, cond int, c Reg, l Label) {
+	b.put(api.Word{Kind: api.WordBranch, A: int(a), B: int(c), Cond: cond, L: int(l)})
 }
 
-func (b *Builder) jump(l int) { b.put(api.Word{Kind: api.WordJump, L: l}) }
+// Jump goes on at a label.
+func (b *Builder) Jump(l Label) { b.put(api.Word{Kind: api.WordJump, L: int(l)}) }
 
 // Loop does something again and again, till it comes to what leave has written.
 func (b *Builder) Loop(do func(leave func())) {
-	again, over := b.newLabel(), b.newLabel()
-	b.label(again)
-	do(func() { b.jump(over) })
-	b.jump(again)
-	b.label(over)
+	again, over := b.NewLabel(), b.NewLabel()
+	b.Place(again)
+	do(func() { b.Jump(over) })
+	b.Jump(again)
+	b.Place(over)
 }
 
 // While does something again and again, as long as a cond c. The question stands behind it, so that going round is one step.
 func (b *Builder) While(a Reg, cond int, c Reg, do func()) {
-	again, ask := b.newLabel(), b.newLabel()
-	b.jump(ask)
-	b.label(again)
+	again, ask := b.NewLabel(), b.NewLabel()
+	b.Jump(ask)
+	b.Place(again)
 	do()
-	b.label(ask)
-	b.branch(a, cond, c, again)
+	b.Place(ask)
+	b.Branch(a, cond, c, again)
 }
 
 // When does something, if a cond c.
 func (b *Builder) When(a Reg, cond int, c Reg, do func()) {
-	over := b.newLabel()
+	over := b.NewLabel()
 	a, cond, c = opposite(a, cond, c)
-	b.branch(a, cond, c, over)
+	b.Branch(a, cond, c, over)
 	do()
-	b.label(over)
+	b.Place(over)
 }
 
 // Either does something, if a cond c, and something other else.
 func (b *Builder) Either(a Reg, cond int, c Reg, do, other func()) {
-	here, over := b.newLabel(), b.newLabel()
-	b.branch(a, cond, c, here)
+	here, over := b.NewLabel(), b.NewLabel()
+	b.Branch(a, cond, c, here)
 	other()
-	b.jump(over)
-	b.label(here)
+	b.Jump(over)
+	b.Place(here)
 	do()
-	b.label(over)
+	b.Place(over)
 }
 
 // opposite is what holds just where a cond c doesn't.
@@ -79,6 +86,16 @@ func (b *Builder) Call(f int, args ...Reg) Reg {
 // Tail lets the function f go on in this one's place.
 func (b *Builder) Tail(f int, args ...Reg) {
 	b.put(api.Word{Kind: api.WordTail, F: f, Args: numbers(args)})
+}
+
+// Apply is what the function answers whose address code is.
+func (b *Builder) Apply(code Reg, args ...Reg) Reg {
+	return b.set(api.Word{Kind: api.WordApply, A: int(code), Args: numbers(args)})
+}
+
+// Go lets the function whose address code is go on in this one's place.
+func (b *Builder) Go(code Reg, args ...Reg) {
+	b.put(api.Word{Kind: api.WordGo, A: int(code), Args: numbers(args)})
 }
 
 // Sys is what a system call answers.

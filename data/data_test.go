@@ -33,7 +33,7 @@ func TestRandom(t *testing.T) {
 			m := &maker{Rand: rand.New(rand.NewSource(hand))}
 			kinds := map[[2]int]int{}
 			held, stuck, moves := 0, 0, 0
-			for i := range 300 {
+			for i := range 200 {
 				m.wrong = []int{0, 0, 400}[i%3]
 				p := m.program()
 				if !holdIn(t, p, smallWorld(), least, 1<<18) {
@@ -53,9 +53,26 @@ func TestRandom(t *testing.T) {
 				}
 			}
 			t.Log(held, stuck, moves, kinds)
-			if held < 200 || moves < 10000 || len(kinds) != 8+9 {
+			if held < 150 || moves < 10000 || len(kinds) != 8+9 {
 				t.Error(held, stuck, moves, kinds)
 			}
 		})
+	}
+}
+
+// The chapter's examples.
+func TestExamples(t *testing.T) {
+	hold(t, []row{
+		{funs{`let 0 = print "a"; ret 0`}, "a; exited 0", 2},
+		{funs{`let 0 = div 1 0; ret 0`}, "err uncaught exception Div; exited 1", 1},
+	})
+	// a function that calls itself: it ends as out of memory, and as a tail it goes on for ever
+	p := program(t, `tail f1`, `let 0 = call f1; ret 0`)
+	if code, trace := ends(t, made(t, p), least, true, patience); !isFull(code, trace) {
+		t.Error(code, trace)
+	}
+	hold(t, []row{{funs{`tail f1`, `tail f1`}, "running", 0}})
+	if _, e := data.Program(api.Program{}); e != api.ErrFlow {
+		t.Error(e)
 	}
 }

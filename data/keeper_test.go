@@ -301,6 +301,9 @@ func keptMade(t testing.TB, p api.Program, q api.WordProgram, w api.World, stric
 	k := newKeeper(t, q, mine, someHeld, someHalf, strict)
 	for k.calls < 1000 && k.moved < 1<<22 && k.s.Steps() < enough || run.Status == api.Exited && k.s.Steps() < patience {
 		status := k.run(5000)
+		if _, said := beforeMemory(mine.Trace(), fullCode); said {
+			status = k.run(1)
+		}
 		if k.lost || k.moved > 1<<26 {
 			return nil
 		}

@@ -75,8 +75,9 @@ func full(b *build.Builder) {
 	text := b.Data(textAt)
 	b.Store(text, 0, b.Const(wordOf(fullText[:wordBytes])))
 	b.Store(text, wordBytes, b.Const(wordOf(fullText[wordBytes:])))
+	code := b.Const(exitCode) // ahead of the text's being written, so that the end comes right behind that
 	b.Sys(sysWrite, b.Const(errOutput), text, b.Const(int64(len(fullText))))
-	b.Ret(b.Sys(sysExit, b.Const(exitCode)))
+	b.Ret(b.Sys(sysExit, code))
 }
 
 // wordOf has the bytes of a text of at most eight, the first one lowest.

@@ -125,6 +125,9 @@ func TestConstants(t *testing.T) {
 				a := api.Atom{Kind: api.AtomInt, Int: y}
 				show(atom(a), "itext")
 				show(primOf("add", a, whole(1)), "itext")
+				less := api.Atom{Kind: api.AtomInt, Int: big.Sub(y, big.Of(1))}
+				same := let(0, primOf("add", less, whole(1)), let(0, primOf("eq", a, local(0)), let(0, primOf("ord", local(0)), let(0, primOf("itext", local(0)), let(0, primOf("print", local(0)), ret(whole(1)))))))
+				holdIn(t, one(1, same), smallWorld(), 1<<17)
 			}
 		}
 	}

@@ -111,7 +111,7 @@ func TestCallsInOneAnother(t *testing.T) {
 	t.Parallel()
 	for _, l := range []funs{
 		{`tail f1`, `let 0 = call f1; ret 1`},
-		{`tail f1`, `try { try { tail f1 } catch 0 { ret 1 } then 1; ret 1 } catch 0 { ret 1 } then 1; ret v1`},
+		{`tail f1`, `try { let 0 = size "a"; try { let 0 = size "b"; tail f1 } catch 0 { ret 1 } then 1; ret 1 } catch 0 { ret 1 } then 1; ret v1`},
 	} {
 		p := program(t, l...)
 		for i, q := range []api.WordProgram{made(t, p), data.InParts(p, 1)} {

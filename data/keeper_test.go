@@ -38,6 +38,7 @@ type keeper struct {
 	shadow map[uint64][]uint64 // what things were when memory was asked for last
 	marks  map[uint64]bool     // those that gc.mark was told of since
 	most   uint64              // bytes that were reached at most
+	last   uint64              // and when memory was asked for last
 	calls  int                 // how often memory was asked for
 	moved  uint64              // bytes that were moved
 	lost   bool                // there is no more room
@@ -121,8 +122,8 @@ func (k *keeper) run(steps int) int {
 		}
 		if at := k.load(cellsBase + marked); at != 0 {
 			k.store(cellsBase+marked, 0)
-			if k.given[at] == 0 && (at < cellsBase+32 || at >= cellsBase+160 || at%16 != 0) {
-				k.Fatalf("%#x is marked, and no thing", at)
+			if !k.reaches(at) && (at < cellsBase+32 || at >= cellsBase+160 || at%16 != 0) {
+				k.Fatalf("%#x is marked, and nothing that is reached", at)
 			}
 			k.marks[at] = true
 			k.store(cellsBase+answered, 1)
@@ -147,6 +148,35 @@ func (k *keeper) give(n uint64) uint64 {
 	}
 	k.next, k.given[at] = at+n+8, n
 	return at
+}
+
+// reaches tells whether a thing is reached. All held words must be values.
+func (k *keeper) reaches(thing uint64) bool {
+	met, row := map[uint64]bool{}, []uint64{}
+	meet := func(at uint64) {
+		x := k.load(at)
+		if x%2 == 1 || x >= cellsBase && x < k.data || met[x] {
+			return
+		}
+		if n := k.given[x]; n == 0 || sizeOf(k.load(x)) != n {
+			k.Fatalf("the word at %#x is %#x, where nothing is", at, x)
+		}
+		met[x] = true
+		row = append(row, x)
+	}
+	for at := k.load(cellsBase + 8); at < k.load(cellsBase); at += 8 {
+		meet(at)
+	}
+	meet(cellsBase + 24)
+	for at := cellsBase + 40; at < cellsBase+160; at += 16 {
+		meet(at)
+	}
+	for i := 0; i < len(row); i++ {
+		for _, at := range k.valuesOf(row[i]) {
+			meet(at)
+		}
+	}
+	return met[thing]
 }
 
 // mover is how things are moved.
@@ -186,7 +216,7 @@ func (k *keeper) move() {
 	for at := top; at < min(end, top+400); at += 8 {
 		k.store(at, k.r.Uint64())
 	}
-	k.given, k.marks, k.most, k.moved = m.given, map[uint64]bool{}, max(k.most, m.size), k.moved+m.size
+	k.given, k.marks, k.last, k.most, k.moved = m.given, map[uint64]bool{}, m.size, max(k.most, m.size), k.moved+m.size
 	k.shadow = map[uint64][]uint64{}
 	for at, n := range k.given {
 		k.shadow[at] = k.words(at, n)

@@ -1,6 +1,7 @@
 package data_test
 
 import (
+	"strings"
 	"testing"
 
 	"smithy/api"
@@ -63,9 +64,10 @@ func TestLetGo(t *testing.T) {
 		{`let 5 = ref 1; try { let 0 = bnew 5000; let 8 = ref 2; let 6 = blen v0; raise v8 } catch 1 { let 9 = bnew 5; let 3 = call f1; let 4 = get v1; ret v3 } then 2; let 4 = get v5; ret v2`},
 		{`try { let 0 = bnew 5000; let 6 = ref v0; ret v6 } catch 1 { ret 1 } then 2; let 3 = get v2; let 3 = call f1; ret v3`},
 		// a place that was let go ahead of a try, and used and let go again within it
-		{`let 0 = ref 1; let 5 = ref 2; let 1 = get v0; let 1 = call f2; try { let 6 = bnew 5000; let 7 = ref 3; let 8 = blen v6; ret v7 } catch 3 { ret v3 } then 2; let 3 = call f1; let 4 = get v5; ret v3`, keptLoop, `ret 1`},
-		{`let 0 = ref 1; let 5 = ref 2; let 1 = get v0; let 1 = call f2; try { let 6 = bnew 5000; let 7 = ref 3; let 8 = blen v6; raise v7 } catch 3 { let 4 = call f1; ret v5 } then 2; ret v2`, keptLoop, `ret 1`},
-		{`let 0 = ref 1; let 5 = ref 2; let 1 = get v0; let 1 = call f2; try { raise 1 } catch 3 { let 6 = bnew 5000; let 7 = ref 3; let 8 = blen v6; ret v7 } then 2; let 3 = call f1; let 4 = get v5; ret v3`, keptLoop, `ret 1`},
+		{`let 0 = ref 1; let 5 = ref 2; let 1 = get v0; let 1 = call f2; try { let 6 = bnew 5000; let 7 = ref 3; let 8 = atom v6; ret v7 } catch 3 { ret v3 } then 2; let 3 = call f1; let 4 = get v5; ret v3`, keptLoop, `ret 1`},
+		{`let 0 = ref 1; let 5 = ref 2; let 1 = get v0; let 1 = call f2; try { let 6 = bnew 5000; let 7 = ref 3; let 8 = atom v6; raise v7 } catch 3 { let 4 = call f1; ret v5 } then 2; ret v2`, keptLoop, `ret 1`},
+		{`let 0 = ref 1; let 5 = ref 2; let 1 = get v0; let 1 = call f2; try { raise 1 } catch 3 { let 6 = bnew 5000; let 7 = ref 3; let 8 = atom v6; ret v7 } then 2; let 3 = call f1; let 4 = get v5; ret v3`, keptLoop, `ret 1`},
+		{big + `try { ret 1 } catch 1 { ret 1 } then 2; let 3 = blen v0; let 4 = call f1; let 0 = atom 7; ret v0`}, // set again behind a try
 		// what was handed on: not kept by the one that did so, nor by the other one
 		{big + `tail f2 v0`, keptLoop, `1: let 1 = blen v0; let 1 = call f1; ret v1`},
 		{big + `tail f2 v0`, keptLoop, `1: let 1 = call f1; ret v1`},
@@ -78,6 +80,8 @@ func TestLetGo(t *testing.T) {
 		{big + `let 1 = closure f2 7; go v1 v0`, keptLoop, `2: let 2 = call f1; ret v0`},
 		{big + `let 1 = closure f2 v0; go v1 3`, keptLoop, `2: let 2 = capture 0 v0; let 2 = blen v2; let 2 = call f1; ret v2`},
 		{big + `let 1 = closure f2 v0; let 2 = patch 0 v1 5; let 3 = call f1; ret v1`, keptLoop, `2: ret 1`},
+		{big + `let 1 = closure f2 5; let 2 = patch 0 v1 v0; let 2 = patch 0 v1 7; let 3 = call f1; ret v1`, keptLoop, `2: ret 1`},
+		{big + `let 1 = closure f2 v0; let 5 = ref 1; let 2 = patch 0 v1 7; let 3 = call f1; ret v5`, keptLoop, `2: ret 1`},
 		{big + `let 1 = block 1 v0; let 1 = field 0 v1; let 2 = bset v1 0 7; let 3 = call f1; ret v3`},
 		{big + `let 1 = set !3 v0; let 1 = set !3 "x"; let 3 = call f1; ret v3`},
 		// behind other calls
@@ -119,6 +123,30 @@ func holdKept(t *testing.T, l funs, keeps bool) {
 		n := reached(t, data.InParts(p, most), l[0])
 		if (n >= bigThing) != keeps || !keeps && n > 200 {
 			t.Errorf("%d bytes are reached: %v", n, l)
+		}
+	}
+}
+
+// P18.2: what isn't live isn't kept where memory is asked for by the function itself, either.
+func TestLetGoAtOnce(t *testing.T) {
+	const made = `let 0 = bnew 5000; let 1 = ref 1; `
+	for _, last := range []string{`let 3 = ref 3; `, `let 3 = block 4 v1; `, `let 3 = closure f1 v1; `, `let 3 = vector #0; `, `let 3 = cat "a" "b"; `, `let 3 = add 4611686018427387903 1; `} {
+		for between, keeps := range map[string]bool{
+			`let 2 = atom v0; `: false, `let 2 = blen v0; `: false, `let 2 = block 3 v0; `: false, `let 0 = atom 1; `: false, `let 0 = ref 1; `: false, `if #1 { `: false,
+			`let 2 = atom v0; let 4 = atom v2; `: false, `try { let 2 = atom v0; raise 1 } catch 4 { ret v4 } then 4; `: false, `let 2 = ref v0; `: true, `let 2 = block 3 v0 v1; `: true,
+		} {
+			then := ``
+			if keeps {
+				then = `let 4 = atom v2; `
+			}
+			text := made + between + last + then + `let 3 = atom v3; let 1 = get v1; ret 1`
+			if strings.HasPrefix(between, "if") {
+				text += ` } { ret v0 }`
+			}
+			k := keptIn(t, program(t, text, `2: ret 1`), smallWorld(), true)
+			if k == nil || (k.last >= bigThing) != keeps {
+				t.Errorf("what is big is kept, or is not: %s", text)
+			}
 		}
 	}
 }

@@ -147,6 +147,10 @@ func TestLocals(t *testing.T) {
 		{funs{`let 0 = atom "a"; try { ret "b" } catch 1 { ret 1 } then 0; let 0 = print v0; ret 1`}, "b; exited 0", 5},
 		{funs{`try { raise "a" } catch 0 { ret "b" } then 0; let 0 = print v0; ret 1`}, "b; exited 0", 5},
 		{funs{`try { raise "a" } catch 0 { let 0 = cat v0 "b"; ret v0 } then 1; let 0 = print v1; ret 1`}, "ab; exited 0", 6},
+		// what a try has set is set again in another one
+		{funs{`try { ret "a" } catch 0 { ret "b" } then 5; try { let 5 = atom "c"; raise 1 } catch 0 { ret v5 } then 6; let 6 = cat v6 v5; let 6 = print v6; ret 1`}, "cc; exited 0", 11},
+		{funs{`try { raise "a" } catch 0 { try { ret "b" } catch 1 { ret 1 } then 5; try { let 5 = atom "c"; raise 1 } catch 1 { ret v5 } then 6; let 6 = cat v6 v5; ret v6 } then 7; let 7 = print v7; ret 1`}, "cc; exited 0", 13},
+		{funs{`try { try { ret "a" } catch 0 { ret "b" } then 5; try { let 5 = atom "c"; raise 1 } catch 0 { raise v5 } then 6; ret 1 } catch 0 { ret v0 } then 6; let 6 = print v6; ret 1`}, "c; exited 0", 11},
 		// a call, a tail, a go has locals of its own
 		{funs{`let 0 = atom "a"; let 1 = call f1; let 0 = print v0; ret 1`, `let 0 = atom "b"; ret v0`}, "a; exited 0", 6},
 		{funs{`let 0 = atom "a"; try { tail f1 } catch 1 { ret 1 } then 1; let 0 = cat v0 v1; let 0 = print v0; ret 1`, `let 0 = atom "b"; let 1 = atom "c"; ret v0`}, "ab; exited 0", 9},

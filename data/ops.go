@@ -109,7 +109,6 @@ func (w *writer) thing(kind, tag int, functions []int, values []api.Atom, at int
 
 // patch sets what a closure has captured, and tells the collector.
 func (w *writer) patch(o *api.Op, at int) build.Reg {
-	w.wipe()
 	w.top(len(w.places))
 	closure := w.atom(&o.Args[0], w.read(at, 0))
 	w.Store(closure, capturedAt+o.N*build.WordBytes, w.atom(&o.Args[1], w.read(at, 1)))

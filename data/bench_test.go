@@ -2,6 +2,8 @@ package data_test
 
 import (
 	"math/rand/v2"
+	"os"
+	"runtime/debug"
 	"slices"
 	"strings"
 	"testing"
@@ -26,6 +28,11 @@ const (
 	patience = 100_000_000 // steps after which a process should have ended, if the run has
 	enough   = 300_000     // steps that are looked at, if it hasn't
 )
+
+func TestMain(m *testing.M) {
+	debug.SetGCPercent(300) // much is made, and little of it held
+	os.Exit(m.Run())
+}
 
 // longer is one byte more than a text may have.
 var longer = strings.Repeat("d", api.MaxString+1)

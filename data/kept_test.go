@@ -129,6 +129,7 @@ func holdKept(t *testing.T, l funs, keeps bool) {
 
 // P18.2: what isn't live isn't kept where memory is asked for by the function itself, either.
 func TestLetGoAtOnce(t *testing.T) {
+	t.Parallel()
 	const made = `let 0 = bnew 5000; let 1 = ref 1; `
 	for _, last := range []string{`let 3 = ref 3; `, `let 3 = block 4 v1; `, `let 3 = closure f1 v1; `, `let 3 = vector #0; `, `let 3 = cat "a" "b"; `, `let 3 = add 4611686018427387903 1; `} {
 		for between, keeps := range map[string]bool{
@@ -179,6 +180,7 @@ func manyLetGo(t *testing.T, many, each int) (p api.Program, kept int) {
 
 // P18.2: many places of a frame are let go at once, others between them are kept.
 func TestLetManyGo(t *testing.T) {
+	t.Parallel()
 	for _, many := range []int{1, 5, 6, 7, 8, 13, 30, 300} {
 		for _, each := range []int{0, 2, 5, 30} {
 			p, kept := manyLetGo(t, many, each)

@@ -105,6 +105,7 @@ func great() map[string]api.Program {
 
 // P18.1: of programs of at most 2000 nodes and 60000 bytes of texts ErrLong is never told for what comes of them.
 func TestGreat(t *testing.T) {
+	t.Parallel()
 	for what, p := range great() {
 		if n := nodes(p); n > 2000 {
 			t.Fatal(what, n)
@@ -152,6 +153,7 @@ func rowOf(from, many, step int) []int {
 
 // P18.1: how many tags may be named, by blocks, by switches, by both, often or not.
 func TestTags(t *testing.T) {
+	t.Parallel()
 	const most = 65534
 	for _, r := range []struct {
 		what string

@@ -121,6 +121,7 @@ func TestMixedArguments(t *testing.T) {
 
 // P18.2: many arguments are moved down by each number of places that are let go.
 func TestArgumentsMovedDown(t *testing.T) {
+	t.Parallel()
 	for _, many := range []int{9, 30} {
 		for live := range 5 {
 			for last := range 5 {

@@ -23,13 +23,13 @@ const (
 // library are the packages of the library that the program may use.
 const library = " bytes cmp container/heap errors iter maps math math/bits slices sort strconv strings sync sync/atomic unicode unicode/utf8 "
 
-// calls says which packages a layer may call, beside api. Packages front, prim and build are no layers: they have what several have
-// in common, and call no more than the lowest of these may.
+// calls says which packages a layer may call, beside api. Packages front, prim, build and rounds are no layers: they have what
+// several have in common, and call no more than the lowest of these may.
 func calls() map[string]string {
 	return map[string]string{
 		"api": "", "big": "", "world": "", "lex": "big", "syntax": "big lex", "types": "big syntax front", "source": "big world front prim", "core": "big world prim", "elab": "big core front", "match": "big core",
-		"flow": "big world prim", "close": "core flow", "opt": "big flow", "word": "world", "heap": "", "gcrt": "build", "bigrt": "gcrt build", "basisrt": "gcrt bigrt build", "data": "flow word gcrt bigrt basisrt build",
-		"front": "", "prim": "big world", "build": "", "colour": "word", "x64": "", "machine": "world x64", "asm": "x64", "emit": "word colour x64 asm", "elf": "",
+		"flow": "big world prim", "close": "core flow", "opt": "big flow", "word": "world rounds", "heap": "", "gcrt": "build", "bigrt": "gcrt build", "basisrt": "gcrt bigrt build", "data": "flow word gcrt bigrt basisrt build",
+		"front": "", "prim": "big world", "build": "", "colour": "word rounds", "rounds": "", "x64": "", "machine": "world x64", "asm": "x64", "emit": "word colour x64 asm", "elf": "",
 		"image": "big world lex syntax types source core elab match flow close opt word heap gcrt bigrt basisrt data colour x64 machine asm emit elf",
 	}
 }

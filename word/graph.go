@@ -1,6 +1,9 @@
 package word
 
-import "smithy/api"
+import (
+	"smithy/api"
+	"smithy/rounds"
+)
 
 // none is no block.
 const none = -1
@@ -14,7 +17,6 @@ type block struct {
 	falls    bool  // it goes on with the next one
 	call     bool
 	reached  bool
-	waits    bool   // it has to be looked at
 	sets     uint64 // which cells of a batch it sets
 	wants    uint64 // which have to be set ahead of it
 }
@@ -23,6 +25,7 @@ type block struct {
 type graph struct {
 	code   []api.Word
 	blocks []block
+	waits  *rounds.Rounds // blocks that have to be looked at, the last one being 0
 }
 
 // newGraph cuts instructions into blocks.
@@ -39,6 +42,7 @@ func newGraph(l []api.Word) *graph {
 		b := &g.blocks[len(g.blocks)-1]
 		b.to, b.falls, b.call = int32(i+1), !leaves(w.Kind), calls(w.Kind)
 	}
+	g.waits = rounds.New(len(g.blocks))
 	for i := range g.blocks {
 		b := &g.blocks[i]
 		if w := l[b.to-1]; w.Kind == api.WordJump || w.Kind == api.WordBranch {

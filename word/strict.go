@@ -107,27 +107,25 @@ func want(l []batch, n, cell int, f api.WordFunction, b int32) []batch {
 // holds tells whether each cell of a batch is set on every way to where it is wanted: it goes back from there, till it is set, or
 // comes to where nothing is.
 func (g *graph) holds(b batch) bool {
-	var touched, todo []int32
+	var touched []int32
 	for _, e := range b.events {
 		touched = append(touched, e.block)
 		if e.sets {
 			g.blocks[e.block].sets |= e.cell
 		} else {
-			todo = g.add(e.block, e.cell, todo)
+			g.add(e.block, e.cell)
 		}
 	}
 	fine := true
-	for fine && len(todo) > 0 {
-		at := todo[len(todo)-1]
-		todo = todo[:len(todo)-1]
+	for n, is := g.waits.Next(); fine && is; n, is = g.waits.Next() {
+		at := int32(len(g.blocks) - 1 - n)
 		touched = append(touched, at)
-		g.blocks[at].waits = false
 		wants := g.blocks[at].wants
 		fine = at != 0 || wants&^b.given == 0
 		g.ahead(at, func(from int32) {
 			left := wants &^ g.blocks[from].sets
 			fine = fine && (!g.blocks[from].call || left&^b.kept == 0)
-			todo = g.add(from, left, todo)
+			g.add(from, left)
 		})
 	}
 	for _, at := range touched {
@@ -136,16 +134,11 @@ func (g *graph) holds(b batch) bool {
 	return fine
 }
 
-// add adds cells to those that a block wants; if these are new ones it has to be looked at.
-func (g *graph) add(at int32, cells uint64, todo []int32) []int32 {
-	b := &g.blocks[at]
-	if cells&^b.wants == 0 {
-		return todo
+// add adds cells to those that a block wants; if these are new ones it has to be looked at. The last blocks are looked at first, as
+// most ways go forth.
+func (g *graph) add(at int32, cells uint64) {
+	if b := &g.blocks[at]; cells&^b.wants != 0 {
+		b.wants |= cells
+		g.waits.Add(len(g.blocks) - 1 - int(at))
 	}
-	b.wants |= cells
-	if b.waits {
-		return todo
-	}
-	b.waits = true
-	return append(todo, at)
 }

@@ -1,6 +1,7 @@
 package colour
 
 import (
+	"reflect"
 	"slices"
 	"testing"
 
@@ -28,8 +29,44 @@ func made(t testing.TB, p api.WordProgram) api.WordProgram {
 		if f.Name != p.Funs[i].Name || f.Params != p.Funs[i].Params || f.Regs > api.Colours {
 			t.Fatalf("function %d: %q, %d parameters, %d registers: %s", i, f.Name, f.Params, f.Regs, shown(p))
 		}
+		for _, w := range f.Code {
+			if !isTidy(w) {
+				t.Fatalf("%+v: %s", w, shown(p))
+			}
+		}
 	}
 	return q
+}
+
+// isTidy tells whether an instruction has nothing but what its kind has.
+func isTidy(w api.Word) bool {
+	_, fields := form(w.Kind)
+	for _, c := range fields {
+		switch c {
+		case 'D':
+			w.D = 0
+		case 'A':
+			w.A = 0
+		case 'B':
+			w.B = 0
+		case 'L':
+			w.L = 0
+		case 'F':
+			w.F = 0
+		case 'C':
+			w.Cond = 0
+		case 'R':
+			w.Real = 0
+		case 'S':
+			w.Size = 0
+		case 'i':
+			w.Imm = 0
+		case 'l':
+			w.Args = nil
+		}
+	}
+	w.Kind = 0
+	return reflect.DeepEqual(w, api.Word{})
 }
 
 // wide is the document's K.

@@ -20,6 +20,41 @@ func reads(w *api.Word, tell func(register *int)) {
 	}
 }
 
+// tidy is an instruction with nothing but what its kind has.
+func tidy(w api.Word) api.Word {
+	out := api.Word{Kind: w.Kind}
+	if answers(w.Kind) {
+		out.D = w.D
+	}
+	reads(&w, func(register *int) {
+		switch register {
+		case &w.A:
+			out.A = w.A
+		case &w.B:
+			out.B = w.B
+		default:
+			out.Args = append(out.Args, *register)
+		}
+	})
+	switch w.Kind {
+	case api.WordConst, api.WordData, api.WordSys, api.WordGet, api.WordPut:
+		out.Imm = w.Imm
+	case api.WordLoad, api.WordStore:
+		out.Imm, out.Size = w.Imm, w.Size
+	case api.WordSet:
+		out.Cond = w.Cond
+	case api.WordReal:
+		out.Real = w.Real
+	case api.WordLabel, api.WordJump:
+		out.L = w.L
+	case api.WordBranch:
+		out.Cond, out.L = w.Cond, w.L
+	case api.WordCall, api.WordTail, api.WordFunc:
+		out.F = w.F
+	}
+	return out
+}
+
 // answers tells whether a kind of instructions sets a register.
 func answers(kind int) bool {
 	switch kind {

@@ -80,8 +80,7 @@ func (p *painter) paint() {
 // word puts what an instruction becomes: at least one, so that nothing is seen earlier than it was. Jumps are put where blocks are
 // joined.
 func (p *painter) word(i int) {
-	w := p.of.Code[i]
-	w.Args = own(w.Args)
+	w := tidy(p.of.Code[i])
 	p.steps++
 	switch source := p.source(i); {
 	case w.Kind == api.WordLabel:
@@ -156,9 +155,7 @@ func (p *painter) get(cell int32) api.Word {
 	if p.known[cell] == none {
 		return api.Word{Kind: api.WordGet, Imm: int64(p.slotOf(cell))}
 	}
-	w := p.of.Code[p.known[cell]]
-	w.Args = nil
-	return w
+	return tidy(p.of.Code[p.known[cell]])
 }
 
 // empty tells whether a cell that is in no colour was set on no way.

@@ -8,10 +8,12 @@ import (
 	"smithy/api"
 )
 
-// tight is a program of one function with 16 registers at most, whose blocks are short. It goes on for ever, and is stuck nowhere.
+// tight is a program of one function with 16 registers at most, whose blocks are short. It goes on for ever, writes what it has now and
+// then, and is stuck nowhere.
 func tight(r *rand.Rand) api.WordProgram {
-	n := 9 + r.IntN(8)
-	var l []api.Word
+	n := 9 + r.IntN(5)
+	one, at, eight := n, n+1, n+2
+	l := []api.Word{{Kind: api.WordConst, D: one, Imm: 1}, {Kind: api.WordData, D: at}, {Kind: api.WordConst, D: eight, Imm: 8}}
 	for i := range n {
 		l = append(l, api.Word{Kind: api.WordConst, D: i, Imm: int64(r.IntN(100))})
 		if r.IntN(3) > 0 {
@@ -24,10 +26,13 @@ func tight(r *rand.Rand) api.WordProgram {
 		if r.IntN(3) == 0 {
 			l = append(l, api.Word{Kind: api.WordAdd + r.IntN(4), D: r.IntN(n), A: r.IntN(n), B: r.IntN(n)})
 		}
+		if r.IntN(5) == 0 {
+			l = append(l, api.Word{Kind: api.WordStore, A: at, B: r.IntN(n), Size: 8}, api.Word{Kind: api.WordSys, D: r.IntN(n), Imm: 1, Args: []int{one, at, eight}})
+		}
 		l = append(l, api.Word{Kind: api.WordBranch, A: r.IntN(n), B: r.IntN(n), Cond: 1 + r.IntN(6), L: r.IntN(blocks)})
 	}
 	l = append(l, api.Word{Kind: api.WordJump, L: r.IntN(blocks)})
-	return api.WordProgram{Funs: []api.WordFunction{{Name: "main", Regs: n, Code: l}}}
+	return api.WordProgram{Funs: []api.WordFunction{{Name: "main", Regs: n + 3, Code: l}}, Zero: 8}
 }
 
 // walk goes from an instruction to the next branch, and tells in how many steps (that one with them). It is none, where it goes on for
@@ -95,27 +100,23 @@ func worst(f, g api.WordFunction, k int) int {
 // P19.3: of short blocks and many values, whichever ways branches go; where values in colours would cost too much they are in slots.
 func TestTight(t *testing.T) {
 	t.Parallel()
-	fat, bad := 0, 0
+	fat := 0
 	for seed := range uint64(6000) {
 		p := tight(rand.New(rand.NewPCG(seed, 3)))
 		q := made(t, p)
 		if n := worst(p.Funs[0], q.Funs[0], 16); n > 20 {
 			t.Fatalf("%d steps more: %s became %s", n, shown(p), shown(q))
 		}
-		g := study(p.Funs[0])
-		x := newPainter(g, 16)
+		x := newPainter(study(p.Funs[0]), 16)
 		x.paint()
-		if l := x.laid(); !x.fits {
+		if x.laid(); !x.fits {
 			fat++
-			if worst(p.Funs[0], l, 16) > 20 {
-				bad++
-			}
 		}
-		if seed%10 == 0 {
-			holdAlike(t, p, q, call{}, theWorld(), 0, 1000)
-		}
+		holdAlike(t, p, q, call{}, theWorld(), 0, 500)
 	}
-	t.Log(fat, bad)
+	if fat == 0 {
+		t.Error("nothing costs too much")
+	}
 }
 
 // P19.3: where fewer steps would be allowed than there may be, values that are in colours where blocks meet would cost too much more
@@ -133,9 +134,7 @@ func TestModest(t *testing.T) {
 		if n := worst(p.Funs[0], q.Funs[0], max(most, 5)); n > 20 {
 			t.Fatalf("%d for each one, and %d steps more: %s became %s", most, n, shown(p), shown(q))
 		}
-		if seed%10 == 0 {
-			holdAlike(t, p, q, call{}, theWorld(), 0, 1000)
-		}
+		holdAlike(t, p, q, call{}, theWorld(), 0, 500)
 	}
 	programs(80000, 300, func(m *maker, p api.WordProgram) {
 		q := copied(p)

@@ -130,7 +130,7 @@ func change(r *rand.Rand, x reflect.Value) {
 func TestChanged(t *testing.T) {
 	t.Parallel()
 	count := map[api.Errno]int{}
-	programs(60000, 3000, func(m *maker, p api.WordProgram) {
+	programs(60000, 2000, func(m *maker, p api.WordProgram) {
 		p = copied(p)
 		for range 1 + m.n(3) {
 			change(m.r, reflect.ValueOf(&p).Elem())

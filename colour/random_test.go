@@ -337,11 +337,11 @@ func programs(from, n uint64, each func(m *maker, p api.WordProgram)) {
 func TestRandomPrograms(t *testing.T) {
 	t.Parallel()
 	ends := map[int]int{}
-	programs(0, 2500, func(m *maker, p api.WordProgram) {
+	programs(0, 1500, func(m *maker, p api.WordProgram) {
 		_, status := holdAlike(t, p, made(t, p), call{}, theWorld(), 40, 3000)
 		ends[status]++
 	})
-	if ends[api.Running] < 500 || ends[api.Exited] < 500 || ends[api.Stuck] < 200 {
+	if ends[api.Running] < 200 || ends[api.Exited] < 200 || ends[api.Stuck] < 100 {
 		t.Error(ends)
 	}
 }
@@ -350,7 +350,7 @@ func TestRandomPrograms(t *testing.T) {
 func TestRandomCalls(t *testing.T) {
 	t.Parallel()
 	ends := map[int]int{}
-	programs(10000, 1000, func(m *maker, p api.WordProgram) {
+	programs(10000, 600, func(m *maker, p api.WordProgram) {
 		q := made(t, p)
 		for _, f := range p.Funs {
 			c := call{name: f.Name}
@@ -364,7 +364,7 @@ func TestRandomCalls(t *testing.T) {
 			ends[status]++
 		}
 	})
-	if ends[api.Running] < 500 || ends[api.WordDone] < 500 || ends[api.Exited] < 50 {
+	if ends[api.Running] < 200 || ends[api.WordDone] < 300 || ends[api.Exited] < 20 {
 		t.Error(ends)
 	}
 }
@@ -372,7 +372,7 @@ func TestRandomCalls(t *testing.T) {
 // P19.4: what is coloured is answered as it is, and so takes the same steps.
 func TestRandomAgain(t *testing.T) {
 	t.Parallel()
-	programs(20000, 1500, func(m *maker, p api.WordProgram) {
+	programs(20000, 800, func(m *maker, p api.WordProgram) {
 		q := made(t, p)
 		again := made(t, q)
 		if text(q) != text(again) {

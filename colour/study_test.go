@@ -63,7 +63,7 @@ func naive(f api.WordFunction, cell, at int) bool {
 func TestLive(t *testing.T) {
 	t.Parallel()
 	wanted, not := 0, 0
-	programs(70000, 400, func(m *maker, p api.WordProgram) {
+	programs(70000, 150, func(m *maker, p api.WordProgram) {
 		for _, f := range p.Funs {
 			if len(f.Code) > 200 {
 				continue

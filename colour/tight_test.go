@@ -101,7 +101,7 @@ func worst(f, g api.WordFunction, k int) int {
 func TestTight(t *testing.T) {
 	t.Parallel()
 	fat := 0
-	for seed := range uint64(6000) {
+	for seed := range uint64(2500) {
 		p := tight(rand.New(rand.NewPCG(seed, 3)))
 		q := made(t, p)
 		if n := worst(p.Funs[0], q.Funs[0], 16); n > 20 {
@@ -123,7 +123,7 @@ func TestTight(t *testing.T) {
 // often; then they are in slots there, and five steps for each one are enough.
 func TestModest(t *testing.T) {
 	t.Parallel()
-	for seed := range uint64(3000) {
+	for seed := range uint64(1500) {
 		p := tight(rand.New(rand.NewPCG(seed, 4)))
 		q := copied(p)
 		most := 1 + int(seed%12)
